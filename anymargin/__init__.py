@@ -1,0 +1,1 @@
+"""Machines with clocks that hold with some margin, or fail with every one."""

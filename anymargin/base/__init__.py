@@ -1,0 +1,1 @@
+"""Exact fractions, graphs, and the checks that all modules share."""
