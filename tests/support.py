@@ -1,15 +1,24 @@
 """What the tests share: how errors are asked for, wrong values, and how examples are read."""
 import unittest
+from fractions import Fraction
+
+from anymargin.errors import InvalidNumber, Refused
+from anymargin.machine.machines import Machine
+from anymargin.zone.zones import Zone
 
 # The longest integers that may be passed, and the shortest ones that may not.
 MOST = 10 ** 60 - 1
 LONG = 10 ** 60
 
+ZONE = Zone(1, 1, ((0, 0), (2, 0)))
+MACHINE = Machine(1, ((2,),), ())
+OBJECTS = (ZONE, MACHINE, InvalidNumber(1), Refused(("zero",)))
+
 # Values of other kinds than an integer; True and False count as such.
-NO_INTEGERS = (True, False, None, "", "1", (), (1,), [1], {}, {1: 1}, LONG, -LONG, 10 ** 99)
+NO_INTEGERS = (True, False, None, "", "1", (), (1,), [1], {}, {1: 1}, LONG, -LONG, 10 ** 99) + OBJECTS
 
 # Values of other kinds than a tuple.
-NO_TUPLES = (True, False, None, 0, 1, -1, LONG, "", "wait", "((0, 1),)", [], [0], [(0, 1)], {}, {0: 1})
+NO_TUPLES = (True, False, None, 0, 1, -1, LONG, "", "wait", "((0, 1),)", [], [0], [(0, 1)], {}, {0: 1}) + OBJECTS
 
 NO_FRACTIONS = NO_TUPLES + (
     (), (1,), (1, 2, 3), (2, 4), (0, 2), (0, 0), (1, 0), (1, -2), (-1, -2), (0, -1), (-2, 4), (MOST, MOST),
@@ -30,7 +39,23 @@ EVERYTHING = NO_INTEGERS + NO_FRACTIONS + (
     0, 1, 7, -3, MOST, "way", "a" * 3000, "\n", ("way",), ("way", ()), ("closed", None), ("closed", [0]), ("wait",),
     ("door", ()), ("door", 0), ("come", ()), (0, 1), (1, 2), ((0, 1),), ((1, 2), (1, 2)), ((0,), ((0,),)),
     ((0,), ((), (0,))), ((), ()), ((), 0), (((),),), ((0,), 0), ((0, 0), 1), ({}, []), ([], {}), ({0: 1}, {0: 1}),
-    nested(3), nested(7), nested(12), tuple(range(50)), ("x",) * 40, [nested(5)] * 3)
+    nested(3), nested(7), nested(12), tuple(range(50)), ("x",) * 40, [nested(5)] * 3, (ZONE, MACHINE), (MACHINE,) * 4,
+    ("way", ZONE), (ZONE, ()), ((ZONE,), 0), ((0,), ZONE), (0, ((0, 1),), ZONE, 0))
+
+
+def pair(value):
+    """A fraction of Python's library as the program tells it."""
+    return (value.numerator, value.denominator)
+
+
+def told(row):
+    """A row of numbers as readings."""
+    return tuple([pair(Fraction(value)) for value in row])
+
+
+def numbers(readings):
+    """Readings as a tuple of fractions of Python's library."""
+    return tuple([Fraction(*reading) for reading in readings])
 
 
 class Case(unittest.TestCase):

@@ -10,7 +10,7 @@ from anymargin.base.fractions import (
     steps_for, times, weighted, whole)
 from anymargin import errors
 from anymargin.errors import InvalidFraction, InvalidNumber, InvalidOperation, Refused
-from tests.support import LONG, MOST, NO_FRACTIONS, NO_INTEGERS, NO_TUPLES, Case
+from tests.support import LONG, MOST, NO_FRACTIONS, NO_INTEGERS, NO_TUPLES, Case, pair
 
 EXAMPLES = """
 >>> [fraction(6, -4), plus((1, 2), (1, 3)), less((1, 2), (1, 3)), times((2, 3), (3, 4)), over((1, 2), (-3, 4))]
@@ -24,11 +24,6 @@ EXAMPLES = """
 >>> over((1, 2), (0, 1))
 raises Refused(('zero',))
 """
-
-
-def pair(value):
-    """A fraction of Python's library as the program tells it."""
-    return (value.numerator, value.denominator)
 
 
 SMALL = sorted({Fraction(top, bottom) for top in range(-9, 10) for bottom in range(1, 7)})
@@ -209,7 +204,7 @@ class Weights(Case):
         self.judged(are_weights, right, wrong)
         self.judged(are_weights, [], NO_FRACTIONS)
 
-    def told(self, weights, rows):
+    def sums(self, weights, rows):
         return tuple([pair(sum([weight * row[at] for weight, row in zip(weights, rows)], Fraction(0)))
                       for at in range(len(rows[0]))])
 
@@ -220,7 +215,7 @@ class Weights(Case):
                 weights = [chosen.choice(SMALL + HUGE) for _ in range(many)]
                 rows = [[chosen.choice(SMALL + HUGE) for _ in range(long)] for _ in range(many)]
                 given = tuple([tuple(map(pair, row)) for row in rows])
-                self.same(weighted(tuple(map(pair, weights)), given), self.told(weights, rows))
+                self.same(weighted(tuple(map(pair, weights)), given), self.sums(weights, rows))
         self.same(weighted(((2, 1),), (((MOST, 1),),)), ((2 * MOST, 1),))
 
     def test_with_weights_it_lies_between_the_least_and_the_greatest(self):

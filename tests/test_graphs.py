@@ -233,7 +233,8 @@ class Ways(Case):
         self.judged(lambda value: is_way_answer(G, (0,), (4, 5), value), right, wrong)
         right = [("closed", (4, 5)), ("closed", (3, 4, 5))]
         wrong = [("closed", (4,)), ("closed", (5,)), ("closed", ()), ("closed", (5, 4)), ("closed", [4, 5]), ("closed",),
-                 ("closed", (0, 1, 2, 3, 4, 5)), ("way", (4, 5)), ("closed", (4, 5, 5)), ("closed", (4, 5), ())]
+                 ("closed", (0, 1, 2, 3, 4, 5)), ("way", (4, 5)), ("closed", (4, 5, 5)), ("closed", (4, 5), ()),
+                 ("close", (4, 5)), ("", (4, 5)), (None, (4, 5)), (True, (4, 5)), (("closed",), (4, 5)), ((4, 5), "closed")]
         self.judged(lambda value: is_way_answer(G, (4,), (0,), value), right, wrong)
         self.judged(lambda value: is_way_answer((), (), (), value), [("closed", ())], [("way", ()), ("closed", (0,))])
 

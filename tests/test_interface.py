@@ -14,13 +14,36 @@ FUNCTIONS = {
         "is_graph(value)", "come_to(graph, begins)", "turned(graph)", "way_answer(graph, begins, goals)",
         "is_way(graph, value)", "is_closed(graph, value)", "is_round(graph, value)",
         "is_way_answer(graph, begins, goals, value)", "knots(graph)", "round_through(graph, node)"),
+    "anymargin.clock.classes": (
+        "is_class(clocks, value)", "class_of(readings)", "told_point(cls)", "is_in(cls, readings)", "next_class(cls)",
+        "put_back(cls, clocks)", "keeps(cls, guards)", "borders(cls)", "is_by(cls, readings)",
+        "classes_within(limits)"),
+    "anymargin.clock.corners": (
+        "corners(cls)", "parts(cls, readings)", "point(cls, weights)", "moved(cls, move)", "corner_moves(cls, move)",
+        "lead(cls, move, weights)", "back_corners(cls, move, corner)"),
+    "anymargin.zone.zones": ("whole_zone(clocks, unit)", "point_zone(readings, unit)"),
+    "anymargin.machine.machines": (
+        "is_guards(clocks, value)", "is_door(clocks, rooms, value)", "machine_fault(clocks, limits, doors)",
+        "loose_round(machine)", "is_loose(machine, value)", "falls(machine)", "is_falls(machine, value)",
+        "with_door(machine, door)", "without_doors(machine, lot)", "with_limits(machine, room, limits)"),
 }
 
-CLASSES = {}
+CLASSES = {
+    ("anymargin.zone.zones", "Zone"): (
+        "(clocks, unit, bounds)",
+        ("has(self, readings)", "least(self)", "edge(self, i, j)", "empty_round(self)", "is_empty_round(self, value)",
+         "is_within(self, other)", "outside(self, other)", "met(self, other)", "finer(self, times)"),
+        ("clocks", "unit", "told", "bounds", "is_empty")),
+    ("anymargin.machine.machines", "Machine"): (
+        "(clocks, limits, doors)", ("doors_from(self, room)",), ("clocks", "limits", "doors", "rooms")),
+}
 
 CONSTANTS = {
     "anymargin.base.fractions": {"MOST_DIGITS": 60},
     "anymargin.base.graphs": {"MOST_NODES": 20000},
+    "anymargin.clock.classes": {"MOST_NUMBER": 4, "MOST_CLOCKS": 3},
+    "anymargin.zone.zones": {"MOST_UNIT": 64},
+    "anymargin.machine.machines": {"MOST_CLOCKS": 3, "MOST_ROOMS": 6, "MOST_DOORS": 12, "MOST_NUMBER": 4},
 }
 
 
@@ -43,6 +66,8 @@ class Interface(Case):
             for line in methods:
                 method = vars(found)[line.split("(")[0]]
                 self.assertEqual(line, method.__name__ + str(inspect.signature(method)))
+            for line in ("__eq__", "__str__"):
+                self.assertIn(line, vars(found))
             for line in properties:
                 self.assertIsInstance(vars(found)[line], property)
 

@@ -40,6 +40,12 @@ def check_fraction(value):
         raise InvalidFraction("not a fraction")
 
 
+def check_both(one, other):
+    """Refuses two values of which one is no fraction."""
+    check_fraction(one)
+    check_fraction(other)
+
+
 def check_some_fractions(value):
     """Refuses a value that is no tuple of at least one fraction."""
     if not are_fractions(value) or not value:
@@ -57,29 +63,25 @@ def fraction(top, bottom):
 
 def plus(one, other):
     """The sum."""
-    check_fraction(one)
-    check_fraction(other)
+    check_both(one, other)
     return sum_of(one, other)
 
 
 def less(one, other):
     """The first one less the second one."""
-    check_fraction(one)
-    check_fraction(other)
+    check_both(one, other)
     return difference_of(one, other)
 
 
 def times(one, other):
     """The product."""
-    check_fraction(one)
-    check_fraction(other)
+    check_both(one, other)
     return product_of(one, other)
 
 
 def over(one, other):
     """The quotient."""
-    check_fraction(one)
-    check_fraction(other)
+    check_both(one, other)
     if other == ZERO:
         raise Refused(("zero",))
     return reduced(one[0] * other[1], one[1] * other[0])
@@ -87,15 +89,13 @@ def over(one, other):
 
 def compared(one, other):
     """-1, 0 or 1: whether the first one is below the second one, equal to it, above it."""
-    check_fraction(one)
-    check_fraction(other)
+    check_both(one, other)
     return order_of(one, other)
 
 
 def halfway(one, other):
     """Half of the sum."""
-    check_fraction(one)
-    check_fraction(other)
+    check_both(one, other)
     return product_of(sum_of(one, other), (1, 2))
 
 
@@ -133,8 +133,7 @@ def rest(one):
 
 def simplest(low, high):
     """The fraction from low to high with the least bottom, and then the top nearest to 0."""
-    check_fraction(low)
-    check_fraction(high)
+    check_both(low, high)
     if order_of(low, high) > 0:
         raise InvalidOperation("low is above high")
     if low[0] <= 0 <= high[0]:
@@ -166,8 +165,7 @@ def turned_over(one):
 
 def steps_for(length, most):
     """The fewest equal steps, each at most `most` long, that go the length."""
-    check_fraction(length)
-    check_fraction(most)
+    check_both(length, most)
     if length[0] < 0 or most[0] <= 0:
         raise InvalidOperation("a length from 0 on and a step above 0 are asked for")
     return -(-length[0] * most[1] // (length[1] * most[0]))

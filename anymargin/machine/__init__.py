@@ -1,0 +1,1 @@
+"""Machines: rooms, doors and clocks."""

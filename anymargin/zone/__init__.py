@@ -1,0 +1,1 @@
+"""Zones: the readings that keep bounds of differences."""
