@@ -306,6 +306,33 @@ class Pairs(Case):
             elif one.clocks < 3:
                 self.assertFalse([row for row in near_points(one) if is_point(one, row) and not is_point(other, row)])
 
+    def test_outside_of_a_zone_that_is_far_away(self):
+        """Where a zone goes on without end, all of its points can lie beyond the bound of the other one."""
+        chosen = random.Random(9)
+        for clocks in (1, 2, 3):
+            for _ in range(150):
+                unit = chosen.choice((1, 2, 64))
+                rows = [[None if i != j and chosen.randrange(3) else 0 for j in range(clocks + 1)]
+                        for i in range(clocks + 1)]
+                for _ in range(clocks):
+                    i, j = chosen.randrange(clocks + 1), chosen.randrange(clocks + 1)
+                    rows[i][j] = 0 if i == j else -chosen.choice((1, 7, 50, MOST))
+                one = Zone(clocks, unit, tuple([tuple(row) for row in rows]))
+                other = Zone(clocks, unit, random_bounds(chosen, clocks + 1))
+                point = one.outside(other)
+                self.same(one.is_within(other), point is None)
+                if point is not None:
+                    # Where all points are far away a reading can have some digits more than may be passed.
+                    self.same((is_point(one, numbers(point)), is_point(other, numbers(point))), (True, False))
+
+    def test_the_point_outside_is_the_nearest_one(self):
+        one = Zone(1, 3, ((3, -11), (None, None)))
+        self.same(one.outside(Zone(1, 3, ((3, None), (9, 6)))), ((11, 3),))
+        self.same(one.outside(Zone(1, 3, ((3, None), (10, 6)))), ((11, 3),))
+        self.same(one.outside(Zone(1, 3, ((3, None), (11, 6)))), ((4, 1),))
+        self.same(Zone(1, 1, ((0, -5), (None, 0))).outside(Zone(1, 1, ((0, 0), (1, 0)))), ((5, 1),))
+        self.same(whole_zone(2, 1).outside(Zone(2, 1, ((0, 0, 0), (None, 0, -3), (None, None, 0)))), ((0, 1), (0, 1)))
+
     def test_within_by_closed_forms(self):
         for one, other in self.pairs():
             if other.is_empty or one.is_empty:

@@ -57,7 +57,8 @@ def least_point(bounds, unit):
 def far_point(bounds, unit, i, j, far):
     """The least point at which what stands for i less what stands for j is at least `far`, by the closed form."""
     rows = [list(row) for row in bounds]
-    rows[j][i] = -far
+    # All points can lie beyond `far`: their own bound is the lesser one then, and has to stay.
+    rows[j][i] = lesser(rows[j][i], -far)
     return least_point(closed_form(rows), unit)
 
 
