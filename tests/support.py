@@ -4,6 +4,7 @@ from fractions import Fraction
 
 from anymargin.errors import InvalidNumber, Refused
 from anymargin.machine.machines import Machine
+from anymargin.machine.nets import Net
 from anymargin.zone.zones import Zone
 
 # The longest integers that may be passed, and the shortest ones that may not.
@@ -12,7 +13,14 @@ LONG = 10 ** 60
 
 ZONE = Zone(1, 1, ((0, 0), (2, 0)))
 MACHINE = Machine(1, ((2,),), ())
-OBJECTS = (ZONE, MACHINE, InvalidNumber(1), Refused(("zero",)))
+NET = Net(MACHINE, MACHINE, ())
+OBJECTS = (ZONE, MACHINE, NET, InvalidNumber(1), Refused(("zero",)))
+
+# The machines that the examples of the document share.
+HOLDS = Machine(2, ((4, 4), (4, 4)), ((0, ((1, 1), (0, 4)), (0, 1), 0), (0, ((0, 0), (2, 2)), (), 1)))
+BASE = Machine(2, ((3, 3),) * 4, (
+    (0, ((1, 1), (0, 4)), (1,), 1), (1, ((0, 2), (0, 4)), (0,), 2), (2, ((0, 4), (2, 4)), (1,), 1),
+    (2, ((0, 0), (2, 4)), (), 3)))
 
 # Values of other kinds than an integer; True and False count as such.
 NO_INTEGERS = (True, False, None, "", "1", (), (1,), [1], {}, {1: 1}, LONG, -LONG, 10 ** 99) + OBJECTS
@@ -41,6 +49,49 @@ EVERYTHING = NO_INTEGERS + NO_FRACTIONS + (
     ((0,), ((), (0,))), ((), ()), ((), 0), (((),),), ((0,), 0), ((0, 0), 1), ({}, []), ([], {}), ({0: 1}, {0: 1}),
     nested(3), nested(7), nested(12), tuple(range(50)), ("x",) * 40, [nested(5)] * 3, (ZONE, MACHINE), (MACHINE,) * 4,
     ("way", ZONE), (ZONE, ()), ((ZONE,), 0), ((0,), ZONE), (0, ((0, 1),), ZONE, 0))
+
+
+def random_guard(chosen):
+    """Bounds of one clock: often none, or just one number."""
+    low, high = sorted([chosen.randrange(5), chosen.randrange(5)])
+    return chosen.choice(((0, 4), (0, 4), (low, low), (low, high), (low, 4)))
+
+
+def random_machine(chosen, clocks, rooms, doors, resets=None):
+    """A machine; `resets` are those that its doors can have, of all if there are none."""
+    lots = resets or [tuple([clock for clock in range(clocks) if lot >> clock & 1]) for lot in range(1 << clocks)]
+    rows = [(chosen.randrange(rooms), tuple([random_guard(chosen) for _ in range(clocks)]), chosen.choice(lots),
+             chosen.randrange(rooms)) for _ in range(doors)]
+    limits = [tuple([chosen.choice((0, 1, 2, 3, 4, 4)) for _ in range(clocks)]) for _ in range(rooms)]
+    return Machine(clocks, tuple(limits), tuple(rows))
+
+
+def is_tight(machine):
+    """Whether there is no loose round, found by adding pairs of rooms until none is new."""
+    for clock in range(machine.clocks):
+        pairs = {(door[0], door[3]) for door in machine.doors if clock not in door[2]}
+        while True:
+            more = pairs | {(a, d) for a, b in pairs for c, d in pairs if b == c}
+            if more == pairs:
+                break
+            pairs = more
+        if [1 for a, b in pairs if a == b]:
+            return False
+    return True
+
+
+def random_run(chosen, machine, most, bottoms=(1, 2, 3)):
+    """Some run of the machine: waits do not look at bounds."""
+    room, steps = 0, []
+    for _ in range(chosen.randrange(most + 1)):
+        doors = machine.doors_from(room)
+        if not doors:
+            break
+        bottom = chosen.choice(bottoms)
+        door = chosen.choice(doors)
+        steps.append((pair(Fraction(chosen.randrange(4 * bottom + 1), bottom)), door))
+        room = machine.doors[door][3]
+    return tuple(steps)
 
 
 def pair(value):

@@ -4,6 +4,7 @@ import random
 
 from anymargin import errors
 from anymargin.machine.machines import Machine
+from anymargin.machine.nets import Net
 from anymargin.zone.zones import Zone, whole_zone
 from tests.support import EVERYTHING, MACHINE, ZONE, Case, nested
 from tests.test_interface import FUNCTIONS
@@ -22,15 +23,45 @@ RIGHT = {
     "doors": ((), (((0, ((1, 2),), (0,), 1)),)), "machine": (MACHINE,), "door": ((0, ((0, 4),), (), 0),), "lot": ((),),
     "room": (0,), "value": (G, ONE, (0, 1), ((0,), 0), WEIGHTS, ("closed", ()))}
 
+TWO = Machine(1, ((2,), (2,)), ((0, ((1, 2),), (0,), 1), (1, ((1, 1),), (0,), 0)))
+STAY = ((((1, 1), 0),), (0, 1))
+NODE = (0, ((0,), ((0,),)))
+COMMON = {
+    "machine": (TWO,), "run": ((((1, 1), 0),),), "zone": (whole_zone(1, 2), ZONE), "door": (0,), "room": (1, 0),
+    "margin": ((1, 2),), "m": (2,)}
+
+# Right arguments in the modules where the same names stand for other things.
+RIGHT_THERE = {
+    "anymargin.zone.deeds": {
+        "tops": ((3,),), "clocks": ((0,), ()), "lows": ((1,),), "highs": ((3,), (None,)), "guards": (((0, 4),),),
+        "slack": (1,), "cls": (((0,), ((), (0,))),)},
+    "anymargin.machine.runs": {
+        "one": ((((1, 1), 0),),), "other": ((((2, 1), 0),),), "weight": ((1, 2),), "many": (1,),
+        "value": ((((1, 1), 0),),)},
+    "anymargin.machine.nets": {
+        "stay": (((), (1, 2)), STAY), "net": (Net(TWO, TWO, ((0, 0),)),), "first": (STAY,), "last": (STAY,), "value": (STAY,)},
+    "anymargin.come.plain": {
+        "node": (NODE,), "move": (("wait",), ("door", 0)), "moves": ((("wait",),) * 3,),
+        "value": (NODE, ("come", (((1, 1), 0),)), ("never", (NODE,)))},
+}
+
+
+def right_for(module, name):
+    """The right arguments for a parameter of a function of a module."""
+    if module in RIGHT_THERE:
+        return {**RIGHT, **COMMON, **RIGHT_THERE[module]}[name]
+    return RIGHT[name]
+
+
 ALLOWED = tuple([value for value in vars(errors).values() if isinstance(value, type)])
 
 
 def calls():
-    """All functions of the interface, with the names of their parameters."""
+    """All functions of the interface, with the right arguments for each of their parameters."""
     for name, told in FUNCTIONS.items():
         for line in told:
             word, rest = line[:-1].split("(")
-            yield getattr(importlib.import_module(name), word), rest.split(", ")
+            yield getattr(importlib.import_module(name), word), [right_for(name, part) for part in rest.split(", ")]
 
 
 class EveryValue(Case):
@@ -44,30 +75,33 @@ class EveryValue(Case):
             self.assertIn(found, (True, False))
 
     def test_functions_with_one_value_in_each_place(self):
-        for call, names in calls():
-            for at in range(len(names)):
+        for call, rows in calls():
+            for at in range(len(rows)):
                 for value in EVERYTHING:
-                    given = [RIGHT[name][0] for name in names]
+                    given = [row[0] for row in rows]
                     given[at] = value
                     with self.subTest(call=call.__name__, at=at, value=repr(value)[:80]):
                         self.taken(call, given)
 
     def test_functions_with_chosen_values(self):
         chosen = random.Random(8)
-        for call, names in calls():
+        for call, rows in calls():
             for _ in range(200):
-                given = [chosen.choice(RIGHT[name] + EVERYTHING[::5]) for name in names]
+                given = [chosen.choice(row * 9 + EVERYTHING[::5]) for row in rows]
                 with self.subTest(call=call.__name__, given=repr(given)[:200]):
                     self.taken(call, given)
 
     def test_methods_and_classes(self):
-        zone, machine = whole_zone(2, 2), MACHINE
+        zone, machine, net = whole_zone(2, 2), MACHINE, Net(TWO, TWO, ())
         for value in EVERYTHING + (nested(11),):
             for call in (zone.has, zone.is_empty_round, zone.is_within, zone.outside, zone.met, zone.finer,
-                         machine.doors_from):
+                         machine.doors_from, net.pair, net.sides):
                 self.taken(call, (value,))
             for given in ((value, 1), (1, value)):
                 self.taken(zone.edge, given)
+                self.taken(net.room, given)
+            for given in ((value, TWO, ()), (TWO, value, ()), (TWO, TWO, value)):
+                self.taken(Net, given)
             for given in ((value, 1, ((0, 0), (0, 0))), (1, value, ((0, 0), (0, 0))), (1, 1, value)):
                 self.taken(Zone, given)
             for given in ((value, ((4,),), ()), (1, value, ()), (1, ((4,),), value)):
@@ -75,11 +109,11 @@ class EveryValue(Case):
 
     def test_values_in_the_place_of_members(self):
         """Each member of a right value, also deep within, is put in the place of others."""
-        for call, names in calls():
-            for at, name in enumerate(names):
-                for right in RIGHT[name]:
+        for call, rows in calls():
+            for at, row in enumerate(rows):
+                for right in row:
                     for value in changed(right):
-                        given = [RIGHT[other][0] for other in names]
+                        given = [other[0] for other in rows]
                         given[at] = value
                         with self.subTest(call=call.__name__, given=repr(given)[:200]):
                             self.taken(call, given)
@@ -93,3 +127,14 @@ def changed(value):
     for at, member in enumerate(value):
         found.extend([value[:at] + (other,) + value[at + 1:] for other in changed(member)])
     return found
+
+
+class RightValues(Case):
+    def test_right_arguments_are_taken(self):
+        """So what is put in the place of one of them is all that can be wrong."""
+        for module, told in FUNCTIONS.items():
+            for line in told if module in RIGHT_THERE else ():
+                word, rest = line[:-1].split("(")
+                given = [right_for(module, part)[0] for part in rest.split(", ")]
+                with self.subTest(call=line):
+                    getattr(importlib.import_module(module), word)(*given)

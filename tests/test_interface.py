@@ -26,6 +26,21 @@ FUNCTIONS = {
         "is_guards(clocks, value)", "is_door(clocks, rooms, value)", "machine_fault(clocks, limits, doors)",
         "loose_round(machine)", "is_loose(machine, value)", "falls(machine)", "is_falls(machine, value)",
         "with_door(machine, door)", "without_doors(machine, lot)", "with_limits(machine, room, limits)"),
+    "anymargin.zone.deeds": (
+        "later(zone, tops)", "earlier(zone)", "put_back(zone, clocks)", "freed(zone, clocks)",
+        "cut(zone, lows, highs)", "widened(guards, unit, slack)", "step_zone(machine, door, zone, slack)",
+        "back_zone(machine, door, zone, slack)", "class_zone(cls, unit)"),
+    "anymargin.machine.runs": (
+        "is_run(machine, value)", "standings(machine, run)", "moments(run)", "time_of(run)", "misses(machine, run)",
+        "needed(machine, run)", "goes(machine, run, margin)", "run_fault(machine, run, margin)",
+        "mixed(machine, one, other, weight)", "room_behind(machine, run)", "part_of(run, many)"),
+    "anymargin.machine.nets": (
+        "is_stay(machine, value)", "stay_length(machine, stay)", "stay_needed(machine, stay)", "split(net, stay)",
+        "joint_fault(net, first, last)", "joined(net, first, last)", "is_joined(net, first, last, value)"),
+    "anymargin.come.plain": (
+        "is_node(machine, value)", "class_graph(machine)", "moved_node(machine, node, move)",
+        "run_along(machine, moves)", "plain_answer(machine, room)", "is_plain_answer(machine, room, value)",
+        "rooms_come_to(machine)"),
 }
 
 CLASSES = {
@@ -36,6 +51,9 @@ CLASSES = {
         ("clocks", "unit", "told", "bounds", "is_empty")),
     ("anymargin.machine.machines", "Machine"): (
         "(clocks, limits, doors)", ("doors_from(self, room)",), ("clocks", "limits", "doors", "rooms")),
+    ("anymargin.machine.nets", "Net"): (
+        "(one, other, shared)", ("room(self, a, b)", "pair(self, room)", "sides(self, door)"),
+        ("one", "other", "shared", "machine")),
 }
 
 CONSTANTS = {
@@ -44,6 +62,7 @@ CONSTANTS = {
     "anymargin.clock.classes": {"MOST_NUMBER": 4, "MOST_CLOCKS": 3},
     "anymargin.zone.zones": {"MOST_UNIT": 64},
     "anymargin.machine.machines": {"MOST_CLOCKS": 3, "MOST_ROOMS": 6, "MOST_DOORS": 12, "MOST_NUMBER": 4},
+    "anymargin.machine.runs": {"MOST_STEPS": 20000},
 }
 
 

@@ -136,6 +136,11 @@ def simplest(low, high):
     check_both(low, high)
     if order_of(low, high) > 0:
         raise InvalidOperation("low is above high")
+    return simplest_between(low, high)
+
+
+def simplest_between(low, high):
+    """What `simplest` tells, for fractions of any length."""
     if low[0] <= 0 <= high[0]:
         return ZERO
     if high[0] < 0:

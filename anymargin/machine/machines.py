@@ -103,6 +103,18 @@ def check_machine(machine):
         raise InvalidMachine("not a machine")
 
 
+def asked_at(machine, index):
+    """For each clock the pair (low, high) of what a door asks for ahead of it, also by the limits of both rooms."""
+    room, guards, resets, goal = machine.doors[index]
+    asked = []
+    for clock in range(machine.clocks):
+        low, high = guards[clock]
+        high = min(high, machine.limits[room][clock])
+        # A clock that is put back keeps each limit of the goal.
+        asked.append((low, high if clock in resets else min(high, machine.limits[goal][clock])))
+    return tuple(asked)
+
+
 def loose_round(machine):
     """A loose round (doors, clock), None if there is none."""
     check_machine(machine)

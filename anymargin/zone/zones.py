@@ -131,6 +131,12 @@ def are_bounds(clocks, value):
     return all([bound is None or is_number(bound) for row in value for bound in row])
 
 
+def check_zone(zone):
+    """Refuses a value that is no zone."""
+    if not isinstance(zone, Zone):
+        raise InvalidZone("not a zone")
+
+
 def check_like(zone, other):
     """Refuses what is not a zone with the same clocks and unit."""
     if not isinstance(other, Zone) or other.clocks != zone.clocks or other.unit != zone.unit:
@@ -160,6 +166,12 @@ def zone_of(unit, told):
     zone._told = told
     zone._closed = closed_form(told)
     return zone
+
+
+def formed_zone(clocks, unit, form):
+    """The zone with this closed form; None is the form of an empty zone."""
+    empty = ((-1,) + (0,) * clocks,) + ((0,) * (clocks + 1),) * clocks
+    return zone_of(unit, empty if form is None else form)
 
 
 def whole_zone(clocks, unit):

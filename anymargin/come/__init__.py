@@ -1,0 +1,1 @@
+"""What rooms are come to: exactly, within a margin, with every margin."""
