@@ -26,6 +26,9 @@ RIGHT = {
 TWO = Machine(1, ((2,), (2,)), ((0, ((1, 2),), (0,), 1), (1, ((1, 1),), (0,), 0)))
 STAY = ((((1, 1), 0),), (0, 1))
 NODE = (0, ((0,), ((0,),)))
+ROUND = ("round", NODE[1], (("wait",), ("wait",), ("door", 0), ("wait",), ("wait",), ("door", 1)), NODE[1])
+CHAIN = (ROUND, ("wait",), ("wait",), ("door", 0))
+DRIFT = (((1, 1), ((6, 5),), 0),)
 COMMON = {
     "machine": (TWO,), "run": ((((1, 1), 0),),), "zone": (whole_zone(1, 2), ZONE), "door": (0,), "room": (1, 0),
     "margin": ((1, 2),), "m": (2,)}
@@ -43,6 +46,14 @@ RIGHT_THERE = {
     "anymargin.come.plain": {
         "node": (NODE,), "move": (("wait",), ("door", 0)), "moves": ((("wait",),) * 3,),
         "value": (NODE, ("come", (((1, 1), 0),)), ("never", (NODE,)))},
+    "anymargin.come.within": {"value": (((whole_zone(1, 2),), ()),)},
+    "anymargin.come.every": {
+        "node": (NODE,), "chain": (CHAIN,),
+        "value": (CHAIN, ROUND[2], ("every", CHAIN), ("margin", 2, ((whole_zone(1, 2),), ())))},
+    "anymargin.come.walks": {"chain": (CHAIN,), "value": ((((1, 1), 0), ((1, 1), 1), ((1, 1), 0)),)},
+    "anymargin.real.drift": {
+        "rate": ((1, 5),), "drift": (DRIFT,),
+        "value": (DRIFT, ("drift", DRIFT), ("barred", "low", 0, 0, 1))},
 }
 
 

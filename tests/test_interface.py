@@ -41,6 +41,20 @@ FUNCTIONS = {
         "is_node(machine, value)", "class_graph(machine)", "moved_node(machine, node, move)",
         "run_along(machine, moves)", "plain_answer(machine, room)", "is_plain_answer(machine, room, value)",
         "rooms_come_to(machine)"),
+    "anymargin.come.within": (
+        "made_zone(machine, door, zone)", "within_answer(machine, room, m)", "is_table(machine, room, m, value)",
+        "least_margin(machine, room)"),
+    "anymargin.come.every": (
+        "round_at(machine, node)", "is_round(machine, node, value)", "every_nodes(machine)",
+        "comes_with_every(machine, room)", "is_chain(machine, value)", "chain_end(machine, chain)",
+        "chain_to(machine, room)", "margin_answer(machine, room)", "is_margin_answer(machine, room, value)"),
+    "anymargin.come.walks": (
+        "returns(machine, chain)", "rounds_needed(machine, chain, m)", "doors_needed(machine, chain, m)",
+        "walk_for(machine, chain, m)", "is_walk(machine, chain, m, value)", "greatest_m(machine, chain)"),
+    "anymargin.real.drift": (
+        "is_rate(value)", "margin_for(rate)", "rate_for(margin)", "is_drift_run(machine, rate, value)",
+        "true_run(machine, rate, drift)", "own_readings(machine, rate, drift)", "drift_answer(machine, run, rate)",
+        "is_drift_answer(machine, run, rate, value)", "least_rate(machine, run)"),
 }
 
 CLASSES = {
@@ -63,6 +77,8 @@ CONSTANTS = {
     "anymargin.zone.zones": {"MOST_UNIT": 64},
     "anymargin.machine.machines": {"MOST_CLOCKS": 3, "MOST_ROOMS": 6, "MOST_DOORS": 12, "MOST_NUMBER": 4},
     "anymargin.machine.runs": {"MOST_STEPS": 20000},
+    "anymargin.come.within": {"MOST_M": 64, "MOST_ZONES": 2000},
+    "anymargin.come.every": {"MOST_LINKS": 20000},
 }
 
 

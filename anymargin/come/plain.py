@@ -133,21 +133,24 @@ def whole_run(machine, moves):
     return tuple(steps)
 
 
+def next_layer(machine, found, layer):
+    """The list of the nodes that moves find first from those of a layer, put into what was found."""
+    further = []
+    for node in layer:
+        for move, behind in moves_from(machine, node):
+            if behind not in found:
+                found[behind] = (node, move)
+                further.append(behind)
+    return further
+
+
 def found_from(machine, room):
     """For each node come to exactly the pair (node ahead, move), None for the first one; up to one in the room."""
     begin = first_node(machine)
     found = {begin: None}
     layer = [begin]
-    while layer:
-        further = []
-        for node in layer:
-            if node[0] == room:
-                return found
-            for move, behind in moves_from(machine, node):
-                if behind not in found:
-                    found[behind] = (node, move)
-                    further.append(behind)
-        layer = further
+    while layer and room not in [node[0] for node in layer]:
+        layer = next_layer(machine, found, layer)
     return found
 
 

@@ -1,0 +1,1 @@
+"""Real machines: clocks that run apart."""
