@@ -130,6 +130,7 @@ class Nets(Case):
 
     def test_wrong_arguments(self):
         self.all_refused(InvalidMachine, lambda one: Net(one, 0, 0), NO_MACHINES)
+        self.all_refused(InvalidMachine, lambda one: Net(one, BELL, ()), NO_MACHINES)
         self.all_refused(InvalidMachine, lambda other: Net(LAMP, other, 0), NO_MACHINES)
         wrong = NO_TUPLES + (((0,),), ((0, 0, 0),), ((2, 0),), ((0, 1),), ((-1, 0),), ((0, -1),), ((True, 0),),
                              ((0, False),), ((0, None),), (("0", 0),), ((0, LONG),), ([0, 0],), [(0, 0)], (0, 0),
@@ -330,6 +331,7 @@ class Split(Case):
         for call in (joint_fault, joined, lambda net, first, last: is_joined(net, first, last, 0)):
             self.all_refused(InvalidOperation, lambda net: call(net, 0, 0), nets)
             self.all_refused(InvalidRun, lambda first: call(SHARED, first, 0), wrong)
+            self.all_refused(InvalidRun, lambda first: call(SHARED, first, stay), wrong)
             self.all_refused(InvalidRun, lambda last: call(SHARED, stay, last), wrong)
             # A stay of one is not always a stay of other.
             self.refused(InvalidRun, call, SHARED, stay, ((((1, 1), 1),), (0, 1)))

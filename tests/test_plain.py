@@ -152,8 +152,9 @@ class Nodes(Case):
             self.all_refused(InvalidMachine, call, NO_MACHINES)
         self.all_refused(InvalidMachine, lambda machine: moved_node(machine, 0, 0), NO_MACHINES)
         wrong = EVERYTHING + ((0, ((3,), ((0,),))), (2, node[1]), (True, node[1]), list(node))
-        self.all_refused(InvalidOperation, lambda value: moved_node(ONE, value, 0), [
-            value for value in wrong if not is_node(ONE, value)])
+        wrong = [value for value in wrong if not is_node(ONE, value)]
+        self.all_refused(InvalidOperation, lambda value: moved_node(ONE, value, 0), wrong)
+        self.all_refused(InvalidOperation, lambda value: moved_node(ONE, value, WAIT), wrong)
         self.all_refused(InvalidOperation, lambda move: moved_node(ONE, node, move), NO_MOVES)
 
 

@@ -282,11 +282,24 @@ class Judged(Case):
                     word.extend(row * chosen.choice((1, 1, 2, 3, 4)) if link[0] == "round" else row)
                 if chosen.randrange(3) == 0:
                     word.append(chosen.randrange(3))
+                if word and chosen.randrange(3) == 0:
+                    word[chosen.randrange(len(word))] = chosen.randrange(3)
                 wanted = fits.fullmatch("".join([chr(97 + door) for door in word])) is not None
                 self.same(is_walk(machine, chain, m, tuple([((0, 1), door) for door in word])), wanted)
                 counts[wanted] += 1
         self.assertGreater(min(counts.values()), 200)
         self.same(is_walk(machine, (), 1, (zero,)), False)
+
+    def test_each_round_has_its_own_number_of_times(self):
+        machine = Machine(2, ((4, 4),), ((0, ((0, 4), (0, 4)), (0, 1), 0),) * 3)
+        zeros, wide = ((0, 0), ((0, 1),)), ((0, 0), ((), (0, 1)))
+        chain = (("round", wide, (WAIT, ("door", 0), WAIT), zeros), ("round", zeros, (("door", 1),), zeros),
+                 ("round", wide, (WAIT, ("door", 2), WAIT), zeros))
+        self.same(rounds_needed(machine, chain, 1), (3, 1, 3))
+        for many in ((1, 1, 1), (3, 1, 3), (4, 1, 3), (3, 2, 3), (3, 1, 4), (1, 1, 3), (3, 0, 3), (0, 1, 1), (1, 1, 0)):
+            run = tuple([((0, 1), door) for door, times in enumerate(many) for _ in range(times)])
+            right = all([1 <= times <= most for times, most in zip(many, (3, 1, 3))])
+            self.same(is_walk(machine, chain, 1, run), right)
 
     def test_a_walk_near_by(self):
         for machine, chain in CHAINS:

@@ -149,6 +149,27 @@ class Answers(Case):
                     else:
                         self.same(is_table(machine, room, m, paper), True)
 
+    def test_longer_runs(self):
+        """Room by room, with resets of all kinds: each run is found back from its end."""
+        chosen = random.Random(115)
+        lengths = {}
+        for at in range(400):
+            clocks, rooms = at % 3 + 1, chosen.choice((4, 5, 6))
+            rows = [random_machine(chosen, clocks, 1, 1).doors[0][1:3] for _ in range(rooms - 1)]
+            doors = tuple([(room, guards, resets, room + 1) for room, (guards, resets) in enumerate(rows)])
+            limits = random_machine(chosen, clocks, rooms, 0).limits
+            machine = Machine(clocks, limits, doors)
+            m = chosen.choice((1, 2, 3, 64))
+            kind, run = within_answer(machine, rooms - 1, m)
+            if kind == "come":
+                lengths[len(run)] = lengths.get(len(run), 0) + 1
+                self.right_run(machine, rooms - 1, m, run)
+        self.assertGreater(min([lengths.get(many, 0) for many in (3, 4, 5)]), 15)
+
+    def test_a_door_at_which_no_time_is_left(self):
+        machine = Machine(1, ((0,), (0,), (4,)), ((0, ((1, 4),), (), 1), (1, ((0, 0),), (0,), 2)))
+        self.same(within_answer(machine, 2, 2), ("come", (((1, 2), 0), ((0, 1), 1))))
+
     def test_answers_are_those_of_the_walk(self):
         for machine in MACHINES + random_machines(113, 20, (3,)):
             for room in range(machine.rooms):

@@ -161,7 +161,7 @@ def go_on(steps, waiting, doors, waits):
 
 def round_parts(machine, link, ends, m):
     """The list of (doors, waits) with which a round is walked from a corner to another one; one more wait ends each."""
-    _, cls, moves, _ = link
+    cls, moves = link[1:3]
     rows = lead_rows(machine, cls, moves)
     g, many = return_of(rows)
     begin, end = [corners_of(cls).index(corner) for corner in ends]

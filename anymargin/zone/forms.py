@@ -19,9 +19,7 @@ def least_numbers(form):
 
 
 def met_form(form, other):
-    """The form of the points that are in both."""
-    if form is None or other is None:
-        return None
+    """The form of the points that are in both of two zones, of which none is empty."""
     rows = [[lesser(bound, more) for bound, more in zip(row, further)] for row, further in zip(form, other)]
     return closed_form(rows)
 
