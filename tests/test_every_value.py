@@ -29,6 +29,9 @@ NODE = (0, ((0,), ((0,),)))
 ROUND = ("round", NODE[1], (("wait",), ("wait",), ("door", 0), ("wait",), ("wait",), ("door", 1)), NODE[1])
 CHAIN = (ROUND, ("wait",), ("wait",), ("door", 0))
 DRIFT = (((1, 1), ((6, 5),), 0),)
+TICKING = ((2, (1, 4), 0), (4, (1, 4), 1))
+LOG = ((0, (1, 1), (2, 1)), (1, (4, 1), (4, 1)))
+AROUND = (("low", 2), ("most", 2, 0), ("most", 1, 0))
 COMMON = {
     "machine": (TWO,), "run": ((((1, 1), 0),),), "zone": (whole_zone(1, 2), ZONE), "door": (0,), "room": (1, 0),
     "margin": ((1, 2),), "m": (2,)}
@@ -54,6 +57,14 @@ RIGHT_THERE = {
     "anymargin.real.drift": {
         "rate": ((1, 5),), "drift": (DRIFT,),
         "value": (DRIFT, ("drift", DRIFT), ("barred", "low", 0, 0, 1))},
+    "anymargin.real.ticks": {"own": ((0,),), "k": (2,), "run": (TICKING,), "value": (TICKING,)},
+    "anymargin.real.logs": {
+        "log": (LOG,), "bound": (("high", 1), ("enter", 2, 0)), "slack": ((1, 2),),
+        "value": (LOG, AROUND, ("never", AROUND), ("least", (1, 1), (((2, 1), 0), ((2, 1), 1)), AROUND))},
+    "anymargin.less.lesser": {"value": (((0,), (1,)),)},
+    "anymargin.mend.mends": {
+        "lot": ((0,),), "most": (1,), "chain": (CHAIN,),
+        "value": (("none", (((0,), ()), ((1,), ()))), ("mend", (0,), 2, ((whole_zone(1, 2),), ())))},
 }
 
 

@@ -55,6 +55,21 @@ FUNCTIONS = {
         "is_rate(value)", "margin_for(rate)", "rate_for(margin)", "is_drift_run(machine, rate, value)",
         "true_run(machine, rate, drift)", "own_readings(machine, rate, drift)", "drift_answer(machine, run, rate)",
         "is_drift_answer(machine, run, rate, value)", "least_rate(machine, run)"),
+    "anymargin.real.ticks": (
+        "is_ticking(machine, own, k, most, value)", "moments(machine, own, k, most, run)",
+        "noticed(machine, own, k, most, run)", "counters(machine, own, k, most, run)",
+        "ticking_fault(machine, own, k, most, run)", "true_run(machine, own, k, most, run)", "ticks_for(m, most)"),
+    "anymargin.real.logs": (
+        "is_log(machine, value)", "bounds(machine, log)", "bound_told(machine, log, bound)",
+        "explains(machine, log, margin, value)", "is_barring(machine, log, margin, value)",
+        "explain_answer(machine, log, margin)", "least_explaining(machine, log)",
+        "is_least_explaining(machine, log, value)", "log_of(machine, run, slack)"),
+    "anymargin.less.lesser": (
+        "came(machine)", "covers(machine)", "alike(machine)", "are_fair(machine, value)", "lesser(machine)",
+        "places(machine)", "led_there(machine, run)", "led_back(machine, run)"),
+    "anymargin.mend.mends": (
+        "does_mend(machine, room, lot)", "least_mends(machine, room)", "mend_answer(machine, room, most)",
+        "is_mend_answer(machine, room, most, value)", "chain_doors(machine, chain)"),
 }
 
 CLASSES = {
@@ -79,6 +94,8 @@ CONSTANTS = {
     "anymargin.machine.runs": {"MOST_STEPS": 20000},
     "anymargin.come.within": {"MOST_M": 64, "MOST_ZONES": 2000},
     "anymargin.come.every": {"MOST_LINKS": 20000},
+    "anymargin.real.logs": {"MOST_SEEN": 100},
+    "anymargin.mend.mends": {"MOST_TAKEN": 2},
 }
 
 

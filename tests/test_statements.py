@@ -7,12 +7,17 @@ from anymargin.come.plain import rooms_come_to
 from anymargin.come.walks import greatest_m, walk_for
 from anymargin.come.within import is_table, within_answer
 from anymargin.errors import Refused
+from anymargin.less.lesser import lesser, places
 from anymargin.machine.machines import Machine
 from anymargin.machine.nets import Net, joined, split, stay_needed
 from anymargin.machine.runs import goes, last_room, needed, room_behind
 from anymargin.real.drift import drift_answer, least_rate, margin_for, own_readings, rate_for, true_run
+from anymargin.real import ticks
+from anymargin.real.logs import explain_answer, is_barring, least_explaining, log_of
+from anymargin.real.ticks import ticking_fault, ticks_for
 from tests.support import BASE, HOLDS, Case, pair, random_machine, random_run
 from tests.test_every import HALF, TIGHT
+from tests.test_ticks import random_ticking
 
 
 class Statements(Case):
@@ -64,6 +69,54 @@ class Statements(Case):
                     met += 1
                     self.assertGreater(Fraction(*least), Fraction(*rate_for((1, margins[room][1]))))
         self.assertGreater(met, 20)
+
+    def test_programs(self):
+        """Where a margin keeps a machine out of a room, no program comes there that looks at enough ticks."""
+        chosen = random.Random(152)
+        right = 0
+        for machine in TIGHT[:50]:
+            margins = {room: answer[1] for room in range(machine.rooms)
+                       for answer in (margin_answer(machine, room),) if answer[0] == "margin"}
+            own = tuple([door for door in range(len(machine.doors)) if chosen.randrange(2)])
+            for k, most in ((1, Fraction(0)), (2, Fraction(1, 4)), (5, Fraction(1, 20)), (9, Fraction(0))):
+                for _ in range(30):
+                    run = random_ticking(chosen, machine, own, k, most, 4)
+                    if ticking_fault(machine, own, k, pair(most), run) is not None:
+                        continue
+                    real = ticks.true_run(machine, own, k, pair(most), run)
+                    right += 1
+                    self.same(goes(machine, real, pair(Fraction(1, k) + most)), True)
+                    m = margins.get(room_behind(machine, real))
+                    if m is not None:
+                        least = ticks_for(m, pair(most))
+                        self.assertTrue(least is None or k < least)
+        self.assertGreater(right, 300)
+
+    def test_explained(self):
+        """What is seen of a run needs its margin at most, and less is barred by a round of bounds."""
+        chosen = random.Random(153)
+        for machine in TIGHT[:40]:
+            run = random_run(chosen, machine, 7)
+            for slack in ((0, 1), (1, 4), (3, 1)):
+                log = log_of(machine, run, slack)
+                word, margin, other, around = least_explaining(machine, log)
+                self.same((word, goes(machine, other, margin)), ("least", True))
+                self.assertLessEqual(Fraction(*margin), Fraction(*needed(machine, run)))
+                for less in ((0, 1), pair(Fraction(*margin) * 9 / 10)):
+                    if around is not None:
+                        self.same((is_barring(machine, log, less, around), explain_answer(machine, log, less)[0]), (True, "barred"))
+
+    def test_kept_by_lesser_machines(self):
+        """Each answer of a lesser room is that of one of its rooms."""
+        for machine in TIGHT[:40]:
+            told, (rooms, clocks, doors) = lesser(machine), places(machine)
+            for place in range(told.rooms):
+                lot = [room for room in range(machine.rooms) if rooms[room] == place]
+                answers = [margin_answer(machine, room)[:2] for room in lot]
+                if margin_answer(told, place)[0] == "every":
+                    self.assertIn("every", [answer[0] for answer in answers])
+                else:
+                    self.same(margin_answer(told, place)[1], max([answer[1] for answer in answers]))
 
     def unlike_clocks(self):
         """Machines with a door that asks for unlike readings of two clocks that begin at one time."""

@@ -239,10 +239,15 @@ def margin_answer(machine, room):
     chain = found_chain(machine, room)
     if chain is not None:
         return ("every", chain)
+    return ("margin",) + least_answer(machine, room)
+
+
+def least_answer(machine, room):
+    """The pair (m, table) with the least m for which no run within 1/m comes to the room."""
     m, kept = least_walk(machine, room)
     if m is None:
         raise TooMany(MOST_M)
-    return ("margin", m, table_of(machine, kept, m))
+    return (m, table_of(machine, kept, m))
 
 
 def is_margin_answer(machine, room, value):

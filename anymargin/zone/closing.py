@@ -32,10 +32,10 @@ def closed_form(told):
 
 def shortened(row, first, ahead):
     """The least sums of the row as it is, and by way of one more index."""
-    return [lesser(bound, None if more is None else first + more) for bound, more in zip(row, ahead)]
+    return [lesser_bound(bound, None if more is None else first + more) for bound, more in zip(row, ahead)]
 
 
-def lesser(one, other):
+def lesser_bound(one, other):
     """The lesser one of two bounds: None is greater than all others."""
     if one is None:
         return other
@@ -46,7 +46,7 @@ def lesser(one, other):
 
 def is_above(one, other):
     """Whether the first one of two bounds is greater."""
-    return one != other and lesser(one, other) == other
+    return one != other and lesser_bound(one, other) == other
 
 
 def least_point(bounds, unit):
@@ -58,7 +58,7 @@ def far_point(bounds, unit, i, j, far):
     """The least point at which what stands for i less what stands for j is at least `far`, by the closed form."""
     rows = [list(row) for row in bounds]
     # All points can lie beyond `far`: their own bound is the lesser one then, and has to stay.
-    rows[j][i] = lesser(rows[j][i], -far)
+    rows[j][i] = lesser_bound(rows[j][i], -far)
     return least_point(closed_form(rows), unit)
 
 

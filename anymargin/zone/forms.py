@@ -1,5 +1,5 @@
 """What steps make of the closed forms of zones, without checks; None is the form of an empty zone."""
-from anymargin.zone.closing import closed_form, lesser
+from anymargin.zone.closing import closed_form, lesser_bound
 
 
 def zero_form(clocks):
@@ -20,7 +20,7 @@ def least_numbers(form):
 
 def met_form(form, other):
     """The form of the points that are in both of two zones, of which none is empty."""
-    rows = [[lesser(bound, more) for bound, more in zip(row, further)] for row, further in zip(form, other)]
+    rows = [[lesser_bound(bound, more) for bound, more in zip(row, further)] for row, further in zip(form, other)]
     return closed_form(rows)
 
 
@@ -69,7 +69,7 @@ def cut_form(form, lows, highs):
     if form is None:
         return None
     first = [0] + [min(bound, -low) for bound, low in zip(form[0][1:], lows)]
-    others = [(lesser(row[0], high),) + row[1:] for row, high in zip(form[1:], highs)]
+    others = [(lesser_bound(row[0], high),) + row[1:] for row, high in zip(form[1:], highs)]
     return closed_form([first] + others)
 
 

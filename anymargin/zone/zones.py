@@ -4,7 +4,7 @@ from anymargin.base.exact import ZERO, difference_of, order_of, product_of, redu
 from anymargin.clock.classes import MOST_CLOCKS, check_readings, check_some_readings
 from anymargin.errors import InvalidNumber, InvalidOperation, InvalidZone, Refused
 from anymargin.zone.closing import closed_form, counted, falls_round, far_point, first_falling, is_above
-from anymargin.zone.closing import least_point, lesser
+from anymargin.zone.closing import least_point, lesser_bound
 
 MOST_UNIT = 64
 
@@ -150,7 +150,7 @@ def does_keep_bound(one, other, bound, unit):
 
 def lesser_row(one, other):
     """The lesser ones of two rows of bounds, place by place."""
-    return tuple([lesser(bound, another) for bound, another in zip(one, other)])
+    return tuple([lesser_bound(bound, another) for bound, another in zip(one, other)])
 
 
 def first_above(closed, other):

@@ -1,0 +1,1 @@
+"""Lesser machines, which keep all answers."""

@@ -1,0 +1,1 @@
+"""Doors whose taking away gives a margin."""
