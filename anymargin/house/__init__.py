@@ -1,0 +1,1 @@
+"""A desk at which a machine is edited."""

@@ -1,0 +1,1 @@
+"""The judge of claims and papers."""
