@@ -3,8 +3,10 @@ import importlib
 import random
 
 from anymargin import errors
+from anymargin.house.desk import Desk
 from anymargin.machine.machines import Machine
 from anymargin.machine.nets import Net
+from anymargin.text.shell import Shell
 from anymargin.zone.zones import Zone, whole_zone
 from tests.support import EVERYTHING, MACHINE, ZONE, Case, nested
 from tests.test_interface import FUNCTIONS
@@ -32,6 +34,7 @@ DRIFT = (((1, 1), ((6, 5),), 0),)
 TICKING = ((2, (1, 4), 0), (4, (1, 4), 1))
 LOG = ((0, (1, 1), (2, 1)), (1, (4, 1), (4, 1)))
 AROUND = (("low", 2), ("most", 2, 0), ("most", 1, 0))
+PLAIN = (TWO.clocks, TWO.limits, TWO.doors)
 COMMON = {
     "machine": (TWO,), "run": ((((1, 1), 0),),), "zone": (whole_zone(1, 2), ZONE), "door": (0,), "room": (1, 0),
     "margin": ((1, 2),), "m": (2,)}
@@ -65,6 +68,11 @@ RIGHT_THERE = {
     "anymargin.mend.mends": {
         "lot": ((0,),), "most": (1,), "chain": (CHAIN,),
         "value": (("none", (((0,), ()), ((1,), ()))), ("mend", (0,), 2, ((whole_zone(1, 2),), ())))},
+    "anymargin.judge.judge": {
+        "claim": (("come within", PLAIN, 1, 2), ("every", PLAIN, 1), ("explained", PLAIN, LOG, (1, 1))),
+        "paper": ((((1, 1), 0),), CHAIN, (((2, 1), 0), ((2, 1), 1))), "value": (("margin", PLAIN, 0, 1),)},
+    "anymargin.text.texts": {
+        "text": ("", "wait\n"), "chain": (CHAIN,), "table": (((whole_zone(1, 2),), ()),), "cls": (NODE[1],)},
 }
 
 
@@ -93,7 +101,7 @@ class EveryValue(Case):
         except ALLOWED:
             return
         word = call.__name__
-        if word.startswith(("is_", "are_", "has_", "does_")):
+        if word.startswith(("is_", "are_", "has_", "does_", "takes")):
             self.assertIn(found, (True, False))
 
     def test_functions_with_one_value_in_each_place(self):
@@ -115,13 +123,19 @@ class EveryValue(Case):
 
     def test_methods_and_classes(self):
         zone, machine, net = whole_zone(2, 2), MACHINE, Net(TWO, TWO, ())
+        desk = Desk(TWO)
         for value in EVERYTHING + (nested(11),):
             for call in (zone.has, zone.is_empty_round, zone.is_within, zone.outside, zone.met, zone.finer,
-                         machine.doors_from, net.pair, net.sides):
+                         machine.doors_from, net.pair, net.sides, desk.comes, desk.answer, desk.mends, desk.since,
+                         desk.behind, desk.places, Desk, Shell().do):
                 self.taken(call, (value,))
             for given in ((value, 1), (1, value)):
                 self.taken(zone.edge, given)
                 self.taken(net.room, given)
+            for given in ((value, TWO.doors[0]), (0, value), (0, (1, 1)), (value, value)):
+                for call in (desk.led, desk.keeps, desk.twin().put_door, desk.twin().set_limits):
+                    self.taken(call, given)
+            self.taken(desk.twin().take_door, (value,))
             for given in ((value, TWO, ()), (TWO, value, ()), (TWO, TWO, value)):
                 self.taken(Net, given)
             for given in ((value, 1, ((0, 0), (0, 0))), (1, value, ((0, 0), (0, 0))), (1, 1, value)):
@@ -158,5 +172,8 @@ class RightValues(Case):
             for line in told if module in RIGHT_THERE else ():
                 word, rest = line[:-1].split("(")
                 given = [right_for(module, part)[0] for part in rest.split(", ")]
+                # The empty text tells neither a machine nor a table.
+                if word in ("read_machine", "read_table"):
+                    given[-1] = {"read_machine": "clocks 1\nroom 2\n", "read_table": "unit 2\nzone 0 0 0 0 0\n"}[word]
                 with self.subTest(call=line):
                     getattr(importlib.import_module(module), word)(*given)

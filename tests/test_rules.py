@@ -22,7 +22,7 @@ NotImplementedError AttributeError StopIteration NotImplemented super property s
 
 METHODS = set("""append clear copy count endswith extend find get index insert isalnum isalpha isdigit islower isspace
 isupper items join keys ljust lower lstrip partition pop remove replace reverse rfind rjust rpartition rsplit rstrip
-setdefault split splitlines startswith strip update upper values zfill bit_length add discard sort""".split())
+setdefault split splitlines startswith strip update upper values zfill bit_length add discard sort isascii""".split())
 
 SPECIAL = set("__init__ __eq__ __repr__ __str__ __len__".split())
 
@@ -32,7 +32,7 @@ __class__ __name__ __dict__""".split())
 NO_WORDS = set("""type typing typing_extensions enum Enum IntEnum StrEnum Flag IntFlag Generic Protocol ABC ABCMeta
 namedtuple NamedTuple TypedDict TYPE_CHECKING abstractmethod""".split())
 
-STATEMENTS = (ast.Assign, ast.AugAssign, ast.If, ast.While, ast.For, ast.Return, ast.Break, ast.Continue, ast.Pass,
+STATEMENTS = (ast.Try, ast.Assign, ast.AugAssign, ast.If, ast.While, ast.For, ast.Return, ast.Break, ast.Continue, ast.Pass,
               ast.Raise, ast.Assert, ast.Delete, ast.Expr, ast.FunctionDef, ast.ClassDef, ast.ImportFrom)
 
 TAKES_LISTS = ("any", "all", "min", "max", "sum", "sorted")

@@ -114,7 +114,7 @@ def is_every_paper(machine, given, paper):
 
 
 def is_not_every_paper(machine, given, paper):
-    """Whether the paper is a pair of a lot of nodes, closed under moves and touched rounds, and of falls that show it."""
+    """Whether the paper is a pair of a lot of nodes, closed under moves and touched rounds, and of falls."""
     if not is_row(2, paper) or not is_closed_lot(machine, given[0], paper[0]):
         return False
     lot = set(paper[0])
