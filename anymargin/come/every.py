@@ -1,9 +1,10 @@
 """What is come to with every margin: exact moves, and the closures of rounds that are touched."""
 from anymargin.base.checks import is_from_to, is_row
-from anymargin.base.graphs import knots
 from anymargin.clock.classes import borders_of, has_class_form
-from anymargin.come.plain import WAIT, check_node, first_node, graph_of, has_node_form, is_move, moves_from, next_layer
-from anymargin.come.plain import node_behind, node_in, row_to
+from anymargin.come.loops import knot_corners, knot_nodes, round_stands
+from anymargin.come.plain import WAIT, check_node, first_node, found_from, has_node_form, is_move, move_rows, moves_by
+from anymargin.come.plain import next_layer, node_behind, node_in, row_to
+from anymargin.come.points import come_on, first_points, plan_of
 from anymargin.come.within import MOST_M, check_ask, is_table, least_walk, table_of
 from anymargin.errors import InvalidChain, Refused, TooMany
 from anymargin.machine.machines import check_machine, loose_round
@@ -32,10 +33,11 @@ def shortest_round(machine, node):
     begin = (node, clocks if loose_round(machine) is not None else ())
     found = {begin: None}
     layer = [begin]
+    rows = move_rows(machine)
     for _ in range(MOST_LINKS):
         further = []
         for state in layer:
-            for move, behind in states_from(machine, state):
+            for move, behind in states_from(machine, rows, state):
                 if behind == (node, ()):
                     return row_to(found, state) + (move,)
                 if behind not in found:
@@ -47,10 +49,10 @@ def shortest_round(machine, node):
     return None
 
 
-def states_from(machine, state):
+def states_from(machine, rows, state):
     """The list of (move, state behind it): a state is a node, and the clocks that have still to be put back."""
     node, lacking = state
-    return [(move, (behind, still_lacking(machine, lacking, move))) for move, behind in moves_from(machine, node)]
+    return [(move, (behind, still_lacking(machine, lacking, move))) for move, behind in moves_by(rows, node)]
 
 
 def still_lacking(machine, lacking, move):
@@ -84,17 +86,39 @@ def does_go_round(machine, node, value):
     return now == node and lacking == ()
 
 
-def nodes_on_rounds(machine):
-    """The list of all nodes of a tight machine that have a round."""
-    nodes, graph = graph_of(machine)
-    return [nodes[place] for knot in knots(graph) for place in knot]
+def points_with_every(machine, knots):
+    """The pair of what whole readings are come to with every margin, for each room, and of the knots that are touched.
+
+    What is come to with every margin is made of whole closures. So a class on a round is touched just if one of its
+    corners is come to; and all classes of its knot are then, one after the other.
+    """
+    plan = plan_of(machine)
+    points = first_points(machine, plan)
+    left = [(knot, knot_corners(machine.rooms, knot)) for knot in knots]
+    touched = []
+    more = True
+    while more:
+        new = [pair for pair in left if are_touched(pair[1], points)]
+        left = [pair for pair in left if pair not in new]
+        touched.extend([knot for knot, corners in new])
+        for knot, corners in new:
+            for room in range(machine.rooms):
+                points[room] |= corners[room]
+            come_on(plan, points, [room for room in range(machine.rooms) if corners[room]])
+        more = bool(new)
+    return (points, touched)
 
 
-def touching(machine):
+def are_touched(corners, points):
+    """Whether some of the corners is one of the points, told as bits for each room."""
+    return any([bits & held for bits, held in zip(corners, points)])
+
+
+def touching(knots):
     """For each node that touches rounds the list of the classes, in its room, on rounds that it is a border of."""
     rows = {}
     closures = {}
-    for room, cls in nodes_on_rounds(machine):
+    for room, cls in [node for nodes in sorted([knot_nodes(knot) for knot in knots]) for node in nodes]:
         if cls not in closures:
             closures[cls] = borders_of(cls)
         for border in closures[cls]:
@@ -102,18 +126,22 @@ def touching(machine):
     return rows
 
 
-def found_with_every(machine):
+def found_with_every(machine, wanted):
     """For each node come to with every margin the pair (node ahead, link), None for the first one.
 
-    A link of a round lacks its moves. Links of rounds are taken only if no moves lead on: so there are few.
+    A link of a round lacks its moves. Links of rounds are taken only if no moves lead on: so there are few. If a room
+    is wanted, it can be enough to find a node of this one.
     """
-    rounds = touching(machine)
+    rounds = touching(points_with_every(machine, round_stands(machine))[1])
     begin = first_node(machine)
     found = {begin: None}
     taken = {}
     layer = [begin]
+    rows = move_rows(machine)
     while layer:
-        reached = come_along(machine, found, layer)
+        reached = come_along(rows, found, layer)
+        if wanted in [room for room, cls in reached]:
+            return found
         layer = []
         for node in reached:
             for cls in rounds.get(node, []):
@@ -121,12 +149,12 @@ def found_with_every(machine):
     return found
 
 
-def come_along(machine, found, begins):
+def come_along(rows, found, begins):
     """The list of the begins and of all nodes that moves find from them."""
     reached = list(begins)
     layer = begins
     while layer:
-        layer = next_layer(machine, found, layer)
+        layer = next_layer(rows, found, layer)
         reached.extend(layer)
     return reached
 
@@ -147,14 +175,26 @@ def every_nodes(machine):
     """The ascending tuple of the nodes come to with every margin."""
     check_machine(machine)
     check_tight(machine)
-    return tuple(sorted(list(found_with_every(machine))))
+    return tuple(sorted(list(found_with_every(machine, None))))
 
 
 def comes_with_every(machine, room):
     """Whether the room is come to with every margin."""
     check_ask(machine, room)
     check_tight(machine)
-    return node_in(found_with_every(machine), room) is not None
+    return does_come(machine, room)
+
+
+def does_come(machine, room):
+    """What `comes_with_every` tells, without checks."""
+    if is_come_to(machine, room):
+        return True
+    return points_with_every(machine, round_stands(machine))[0][room] > 0
+
+
+def is_come_to(machine, room):
+    """Whether the room is come to exactly."""
+    return first_points(machine, plan_of(machine))[room] > 0
 
 
 def is_chain(machine, value):
@@ -213,10 +253,13 @@ def chain_to(machine, room):
 
 def found_chain(machine, room):
     """What `chain_to` tells, without checks."""
-    found = found_with_every(machine)
-    node = node_in(found, room)
-    if node is None:
+    if is_come_to(machine, room):
+        found = found_from(machine, room)
+    elif does_come(machine, room):
+        found = found_with_every(machine, room)
+    else:
         return None
+    node = node_in(found, room)
     chain = []
     while found[node] is not None:
         node, link = found[node]

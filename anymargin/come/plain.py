@@ -1,10 +1,10 @@
 """What is come to exactly: nodes, their moves, and runs of whole waits along them."""
 from anymargin.base.checks import check_number, is_from_to, is_row
 from anymargin.base.exact import ZERO
-from anymargin.clock.classes import class_behind, class_put_back, classes_within, does_keep, has_class_form
+from anymargin.clock.classes import class_behind, class_put_back, classes_within, does_keep, has_class_form, raised
 from anymargin.clock.corners import corners_of, leads
 from anymargin.errors import InvalidOperation, Refused
-from anymargin.machine.machines import check_machine
+from anymargin.machine.machines import asked_at, check_machine
 from anymargin.machine.runs import MOST_STEPS, does_go, has_run_form, last_room
 
 WAIT = ("wait",)
@@ -72,11 +72,45 @@ def node_behind(machine, node, move):
     return (goal, behind) if does_fit_room(machine, goal, behind) else None
 
 
+def move_rows(machine):
+    """For each room the pair of its limits and of the list of (move, asked bounds, resets, goal) of its doors."""
+    rows = [(limits, []) for limits in machine.limits]
+    for index in range(len(machine.doors)):
+        room, _, resets, goal = machine.doors[index]
+        rows[room][1].append((("door", index), asked_at(machine, index), resets, goal))
+    return rows
+
+
+def moves_by(rows, node):
+    """The list of the pairs (move, node behind it) of the moves that are let from a node, by `move_rows`."""
+    room, (wholes, order) = node
+    limits, doors = rows[room]
+    first = order[0]
+    found = []
+    # In a class in which time goes by no clock is at its limit: so waiting is let.
+    if not first:
+        found.append((WAIT, (room, (raised(wholes, order[-1]), (order[-1],) + order[1:-1]))))
+    elif not [clock for clock in first if wholes[clock] == limits[clock]]:
+        found.append((WAIT, (room, (wholes, ((),) + order))))
+    for move, asked, resets, goal in doors:
+        if does_keep_all(wholes, first, asked):
+            found.append((move, (goal, class_put_back(node[1], resets))))
+    return found
+
+
+def does_keep_all(wholes, first, asked):
+    """Whether a class with these wholes, and these clocks at whole numbers, keeps a pair (low, high) for each clock."""
+    for clock in range(len(wholes)):
+        number = wholes[clock]
+        low, high = asked[clock]
+        if number < low or number > high or number == high and clock not in first:
+            return False
+    return True
+
+
 def moves_from(machine, node):
     """The list of the pairs (move, node behind it) of the moves that are let from a node."""
-    moves = [WAIT] + [("door", index) for index in machine.doors_from(node[0])]
-    pairs = [(move, node_behind(machine, node, move)) for move in moves]
-    return [(move, behind) for move, behind in pairs if behind is not None]
+    return moves_by(move_rows(machine), node)
 
 
 def class_graph(machine):
@@ -89,8 +123,9 @@ def graph_of(machine):
     """What `class_graph` tells, without checks."""
     nodes = nodes_of(machine)
     places = {node: place for place, node in enumerate(nodes)}
-    rows = [tuple(sorted({places[behind] for move, behind in moves_from(machine, node)})) for node in nodes]
-    return (nodes, tuple(rows))
+    rows = move_rows(machine)
+    graph = [tuple(sorted({places[behind] for move, behind in moves_by(rows, node)})) for node in nodes]
+    return (nodes, tuple(graph))
 
 
 def moved_node(machine, node, move):
@@ -133,11 +168,11 @@ def whole_run(machine, moves):
     return tuple(steps)
 
 
-def next_layer(machine, found, layer):
+def next_layer(rows, found, layer):
     """The list of the nodes that moves find first from those of a layer, put into what was found."""
     further = []
     for node in layer:
-        for move, behind in moves_from(machine, node):
+        for move, behind in moves_by(rows, node):
             if behind not in found:
                 found[behind] = (node, move)
                 further.append(behind)
@@ -149,8 +184,9 @@ def found_from(machine, room):
     begin = first_node(machine)
     found = {begin: None}
     layer = [begin]
+    rows = move_rows(machine)
     while layer and room not in [node[0] for node in layer]:
-        layer = next_layer(machine, found, layer)
+        layer = next_layer(rows, found, layer)
     return found
 
 
@@ -209,7 +245,8 @@ def is_closed_lot(machine, room, value):
     lot = set(value)
     if first_node(machine) not in lot or any([node[0] == room for node in value]):
         return False
-    return all([behind in lot for node in value for move, behind in moves_from(machine, node)])
+    rows = move_rows(machine)
+    return all([behind in lot for node in value for move, behind in moves_by(rows, node)])
 
 
 def rooms_come_to(machine):

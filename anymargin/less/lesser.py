@@ -1,7 +1,7 @@
 """Lesser machines: without rooms that no doors lead to, without covered clocks, alike rooms taken once."""
 from anymargin.base.checks import is_ascending
 from anymargin.base.graphs import reached
-from anymargin.machine.machines import Machine, check_machine
+from anymargin.machine.machines import Machine, check_machine, room_graph
 from anymargin.machine.runs import check_its_run
 
 
@@ -13,8 +13,7 @@ def came(machine):
 
 def rooms_reached(machine):
     """What `came` tells, without checks."""
-    graph = [sorted({door[3] for door in machine.doors if door[0] == room}) for room in range(machine.rooms)]
-    return reached(graph, (0,))
+    return reached(room_graph(machine), (0,))
 
 
 def covers(machine):

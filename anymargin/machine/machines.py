@@ -97,6 +97,12 @@ class Machine:
         return f"machine of {self._clocks} clocks, {len(self._limits)} rooms, {len(self._doors)} doors"
 
 
+def room_graph(machine):
+    """The tuple that has for each room the ascending tuple of the rooms to which doors lead from it."""
+    rooms = range(machine.rooms)
+    return tuple([tuple(sorted({door[3] for door in machine.doors if door[0] == room})) for room in rooms])
+
+
 def check_machine(machine):
     """Refuses a value that is no machine."""
     if not isinstance(machine, Machine):
