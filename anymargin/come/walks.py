@@ -1,8 +1,8 @@
 """Runs made from chains: for each m a run within 1/m, corner by corner, and round by round in small steps."""
-from math import lcm
+from math import gcd, lcm
 
 from anymargin.base.checks import GREATEST, check_number
-from anymargin.base.exact import ZERO, reduced, sum_of
+from anymargin.base.exact import reduced
 from anymargin.clock.classes import class_behind, class_put_back
 from anymargin.clock.corners import corners_of, leads
 from anymargin.come.every import check_chain, node_behind_link
@@ -134,54 +134,76 @@ def walk_for(machine, chain, m):
     node = first_node(machine)
     corner = corners_of(node[1])[0]
     steps = []
-    waiting = ZERO
+    waiting = 0
     for link in chain:
         behind = node_behind_link(machine, node, link)
         if link[0] == "round":
             goal = corners_of(behind[1])[0]
-            for doors, waits in round_parts(machine, link, (corner, goal), m):
-                waiting = go_on(steps, waiting, doors, waits)
+            waiting = walk_round(machine, link, (corner, goal), m, (steps, waiting))
             corner = goal
         else:
             corners = corners_of(behind[1])
             at, wait = leads(corner, clock_move(machine, link), corners)[0]
-            waiting = go_on(steps, sum_of(waiting, (wait, 1)), doors_in((link,)), [ZERO, ZERO])
+            waiting = go_on(steps, waiting + wait, doors_in((link,)), [0, 0])
             corner = corners[at]
         node = behind
     return tuple(steps)
 
 
 def go_on(steps, waiting, doors, waits):
-    """Adds the doors, with the waits ahead of them, to the steps; what is waited behind the last one."""
+    """Adds the doors, with the whole waits ahead of them, to the steps; what is waited behind the last one."""
     for door, wait in zip(doors, waits):
-        steps.append((sum_of(waiting, wait), door))
-        waiting = ZERO
-    return sum_of(waiting, waits[-1])
+        steps.append(((waiting + wait, 1), door))
+        waiting = 0
+    return waiting + waits[-1]
 
 
-def round_parts(machine, link, ends, m):
-    """The list of (doors, waits) with which a round is walked from a corner to another one; one more wait ends each."""
+def walk_round(machine, link, ends, m, ahead):
+    """Adds to the steps how a round is walked from a corner to another one; what is waited behind the last door.
+
+    `ahead` is the pair of the steps, and of what has been waited since the last one: a whole number at both ends.
+    """
     cls, moves = link[1:3]
+    steps, waiting = ahead
     rows = lead_rows(machine, cls, moves)
     g, many = return_of(rows)
     begin, end = [corners_of(cls).index(corner) for corner in ends]
     back = sorted(list(coming_back(rows)))
     first = [corner for corner in back if corner in led_to(rows * g, [begin])][0]
     last = [corner for corner in back if end in led_to(rows * g, [corner])][0]
-    parts = [even_part(moves * g, corner_waits(rows * g, begin, first))]
+    waiting = go_on(steps, waiting, doors_in(moves * g), by_doors(moves * g, corner_waits(rows * g, begin, first)))
     one = by_doors(moves * many, corner_waits(rows * many, first, first))
     other = by_doors(moves * many, corner_waits(rows * many, last, last))
-    for step in range(1, m + 1):
-        # The waits with which the next one of m even steps from the first corner to the last one comes back.
-        waits = [reduced((m - step) * wait + step * more, m) for wait, more in zip(one, other)]
-        parts.append((doors_in(moves) * many, waits))
-    parts.append(even_part(moves * g, corner_waits(rows * g, last, end)))
-    return parts
+    steps.extend(small_steps(doors_in(moves) * many, one, other, waiting, m))
+    return go_on(steps, other[-1], doors_in(moves * g), by_doors(moves * g, corner_waits(rows * g, last, end)))
 
 
-def even_part(moves, waits):
-    """The pair (doors, waits) for moves with waits of 0 or 1."""
-    return (doors_in(moves), [(wait, 1) for wait in by_doors(moves, waits)])
+def small_steps(doors, one, other, waiting, m):
+    """The list of the steps with which one goes, m times, through the doors: the waits change by even small steps.
+
+    Each time it is gone with the waits with which the next one of m even points, from the one corner to the other one,
+    comes back: ahead of each door, and behind the last one.
+    """
+    columns = []
+    for place in range(len(doors)):
+        # Counted by m: a wait is `start` ahead of the first time, and grows by `rise` each time.
+        start, rise = m * one[place], other[place] - one[place]
+        if place == 0:
+            # What was waited behind the last door, the time before, is waited ahead of the first one, too.
+            more = other[-1] - one[-1]
+            start, rise = start + m * one[-1] - more, rise + more
+        columns.append(counted_steps(doors[place], start, rise, m))
+    found = [step for row in zip(*columns) for step in row]
+    found[0] = (reduced(m * (waiting + one[0]) + other[0] - one[0], m), doors[0])
+    return found
+
+
+def counted_steps(door, start, rise, m):
+    """The list of the steps through a door, m times, with a wait that is counted by m, and grows from start on."""
+    if rise == 0:
+        return [(reduced(start, m), door)] * m
+    tops = [start + rise * step for step in range(1, m + 1)]
+    return [((top // common, m // common), door) for top in tops for common in [gcd(top, m)]]
 
 
 def corner_waits(rows, begin, end):
