@@ -174,6 +174,31 @@ class Runs(Case):
             ahead = [needed(machine, part_of(run, many)) for many in range(len(run) + 1)]
             self.assertEqual(sorted(ahead, key=lambda one: Fraction(*one)), ahead)
 
+    def test_needed_by_waits_with_long_bottoms(self):
+        """Waits that can be counted by one bottom, and such that cannot, also in one run."""
+        chosen = random.Random(87)
+        for machine, run in pairs(88, 120, 9):
+            for bottoms in ((1, 7, 12), (10 ** 30, 10 ** 30 + 1), (MOST, MOST - 1, 1), (10 ** 59, 2, 3)):
+                waits = [Fraction(*wait) + Fraction(chosen.randrange(-2, 3), chosen.choice(bottoms)) for wait, door in run]
+                other = tuple([(pair(max(wait, Fraction(0))), step[1]) for wait, step in zip(waits, run)])
+                if is_run(machine, other):
+                    greatest = max([Fraction(0)] + all_missed(machine, other))
+                    self.same(needed(machine, other), pair(greatest))
+                    self.same((goes(machine, other, (1, 3)), goes(machine, other, (0, 1))), (greatest <= Fraction(1, 3), greatest == 0))
+
+    def test_needed_by_long_runs(self):
+        one = Machine(1, ((4,),), ((0, ((0, 4),), (), 0),))
+        still = (((0, 1), 0),) * 20000
+        self.same([needed(one, still), needed(one, still[1:] + (((9, 2), 0),)), needed(one, (((1, 100), 0),) * 20000)],
+                  [(0, 1), (1, 2), (196, 1)])
+        chosen = random.Random(89)
+        doors = ((0, ((0, 4), (0, 4)), (0, 1), 0), (0, ((1, 2), (0, 4)), (0,), 0), (0, ((0, 4), (2, 3)), (1,), 0))
+        machine = Machine(2, ((4, 4),), doors)
+        for bottoms in ((1, 2, 3), (1,), (97, 89, 83, 79, 10 ** 20 + 39, 10 ** 20 + 129, 10 ** 20 + 151)):
+            run = tuple([(pair(Fraction(chosen.randrange(2 * bottom + 1), bottom)), chosen.randrange(3))
+                         for bottom in [chosen.choice(bottoms) for _ in range(800)]])
+            self.same(needed(machine, run), pair(max(all_missed(machine, run))))
+
     def test_the_first_fault(self):
         for machine, run in pairs(85, 200):
             rows = missed(machine, run)

@@ -193,7 +193,7 @@ def small_steps(doors, one, other, waiting, m):
             more = other[-1] - one[-1]
             start, rise = start + m * one[-1] - more, rise + more
         columns.append(counted_steps(doors[place], start, rise, m))
-    found = [step for row in zip(*columns) for step in row]
+    found = [column[time] for time in range(m) for column in columns]
     found[0] = (reduced(m * (waiting + one[0]) + other[0] - one[0], m), doors[0])
     return found
 

@@ -1,11 +1,16 @@
 """Runs of machines: waits, and the doors gone through; how far they miss bounds."""
-from anymargin.base.checks import check_number, is_from_to, is_row
-from anymargin.base.exact import UNIT, ZERO, difference_of, order_of, product_of, sum_of, total_of
+from math import gcd, lcm
+
+from anymargin.base.checks import GREATEST, check_number
+from anymargin.base.exact import UNIT, ZERO, difference_of, order_of, product_of, reduced, sum_of, total_of
 from anymargin.base.fractions import is_from_zero
 from anymargin.errors import InvalidFraction, InvalidOperation, InvalidRun
-from anymargin.machine.machines import MOST_DOORS, check_machine
+from anymargin.machine.machines import MOST_DOORS, asked_at, check_machine
 
 MOST_STEPS = 20000
+
+# All waits of a run are counted by a common bottom if it is not longer than this.
+MOST_COMMON = 10 ** 60
 
 # The bounds of a step, in the sequence in which they are looked at.
 WORDS = ("stay", "low", "high", "enter")
@@ -15,7 +20,20 @@ def are_steps(value):
     """Whether the value is a tuple, not too long, of pairs of a wait and an index that some door can have."""
     if not isinstance(value, tuple) or len(value) > MOST_STEPS:
         return False
-    return all([is_row(2, step) and is_from_zero(step[0]) and is_from_to(step[1], 0, MOST_DOORS - 1) for step in value])
+    # Runs are long: so all that is asked of a step is asked here, without calls of other checks.
+    for step in value:
+        if not isinstance(step, tuple) or len(step) != 2 or not isinstance(step[0], tuple) or len(step[0]) != 2:
+            return False
+        (top, bottom), door = step
+        if not isinstance(top, int) or not isinstance(bottom, int) or not isinstance(door, int):
+            return False
+        if isinstance(top, bool) or isinstance(bottom, bool) or isinstance(door, bool):
+            return False
+        if not 0 <= top <= GREATEST or not 0 < bottom <= GREATEST or not 0 <= door < MOST_DOORS:
+            return False
+        if bottom > 1 and gcd(top, bottom) > 1:
+            return False
+    return True
 
 
 def check_steps(run):
@@ -27,10 +45,11 @@ def check_steps(run):
 def do_follow(machine, indices):
     """Whether the doors, told by integers from 0 on, are there, and lead on one from another from the room 0."""
     room = 0
+    doors = machine.doors
     for index in indices:
-        if index >= len(machine.doors) or machine.doors[index][0] != room:
+        if index >= len(doors) or doors[index][0] != room:
             return False
-        room = machine.doors[index][3]
+        room = doors[index][3]
     return True
 
 
@@ -168,7 +187,65 @@ def needed(machine, run):
 
 def needed_by(machine, run):
     """What `needed` tells, without checks."""
-    return greatest_of([miss for rows in miss_rows(machine, run) for row in rows for miss in row])
+    common = bottom_of_waits(run)
+    if common is None:
+        return greatest_of([clock_miss(machine, run, clock) for clock in range(machine.clocks)])
+    scales = {wait[1]: common // wait[1] for wait, door in run}
+    waits = [wait[0] * scales[wait[1]] for wait, door in run]
+    doors = doors_of(run)
+    most = max([counted_miss(machine, waits, doors, clock, common) for clock in range(machine.clocks)])
+    return reduced(most, common)
+
+
+def bottom_of_waits(run):
+    """The least common multiple of the bottoms of all waits, None if it is too long to count by."""
+    common = 1
+    for bottom in sorted({wait[1] for wait, door in run}):
+        common = lcm(common, bottom)
+        if common > MOST_COMMON:
+            return None
+    return common
+
+
+def bounds_of_clock(machine, clock):
+    """For each door (low, high, whether it puts the clock back): all that its step asks of the clock."""
+    doors = machine.doors
+    return [asked_at(machine, index)[clock] + (clock in doors[index][2],) for index in range(len(doors))]
+
+
+def counted_miss(machine, waits, doors, clock, common):
+    """The greatest miss of a clock, counted by the common bottom, as the waits are."""
+    rows = [(low * common, high * common, back) for low, high, back in bounds_of_clock(machine, clock)]
+    reading = 0
+    most = 0
+    for wait, door in zip(waits, doors):
+        reading += wait
+        low, high, back = rows[door]
+        if reading - high > most:
+            most = reading - high
+        if low - reading > most:
+            most = low - reading
+        if back:
+            reading = 0
+    return most
+
+
+def clock_miss(machine, run, clock):
+    """The greatest miss of a clock."""
+    rows = bounds_of_clock(machine, clock)
+    reading = ZERO
+    most = ZERO
+    for wait, door in run:
+        low, high, back = rows[door]
+        reading = sum_of(reading, wait)
+        top, bottom = reading
+        # Less a whole number a fraction stays in lowest terms.
+        for miss in (top - high * bottom, low * bottom - top):
+            if miss * most[1] > most[0] * bottom:
+                most = (miss, bottom)
+        if back:
+            reading = ZERO
+    return most
 
 
 def goes(machine, run, margin):
