@@ -8,6 +8,9 @@ from anymargin.base.graphs import linked_lots
 from anymargin.come.points import bit_of
 from anymargin.machine.machines import asked_at, room_graph
 
+# For none, one and two rests above 0 all rows of ranks: which is greater, or whether they are equal.
+RANKS = (((),), ((1,),), ((1, 1), (1, 2), (2, 1)))
+
 
 def rooms_round(machine):
     """For each room the number of its lot: rooms that lead to one another have the same one."""
@@ -44,7 +47,7 @@ def stands_behind_door(clocks, door):
     found = []
     for halves in half_rows([asked[clock] for clock in left]):
         odd = [at for at in range(len(left)) if halves[at] % 2 == 1]
-        for ranks in rank_rows(len(odd)):
+        for ranks in RANKS[len(odd)]:
             rests = [0] * len(left)
             for at, rank in zip(odd, ranks):
                 rests[at] = rank
@@ -58,11 +61,6 @@ def half_rows(pairs):
     for low, high in pairs:
         rows = [row + (half,) for row in rows for half in range(2 * low, 2 * high + 1)]
     return rows
-
-
-def rank_rows(many):
-    """All rows of ranks of so many rests above 0, at most two: which is greater, or whether they are equal."""
-    return (((),), ((1,),), ((1, 1), (1, 2), (2, 1)))[many]
 
 
 def stand_with(clocks, room, left, wholes, rests):
@@ -148,12 +146,13 @@ def round_stands(machine):
 
 def knots_among(stands, ways):
     """What `round_stands` tells, from the stands and the ways between them, told by their places."""
+    lots = linked_lots([[place for place, last in row] for row in ways])
+    homes = {place: at for at in range(len(lots)) for place in lots[at]}
     knots = []
-    for lot in linked_lots([[place for place, last in row] for row in ways]):
-        members = set(lot)
+    for lot in lots:
         knot = []
         for place in lot:
-            lasts = [last for behind, last in ways[place] if behind in members]
+            lasts = [last for behind, last in ways[place] if homes[behind] == homes[place]]
             if lasts:
                 knot.append((stands[place], max(lasts)))
         if knot:
@@ -178,7 +177,7 @@ def corner_bits(size, spots):
     readings = [spot // unit for spot in spots]
     rests = [spot % unit for spot in spots]
     bits = bit_of(readings)
-    for level in sorted(set(rests), reverse=True):
+    for level in reversed(sorted(set(rests))):
         if level > 0:
             readings = [number + 1 if rest == level else number for number, rest in zip(readings, rests)]
             bits |= bit_of(readings)

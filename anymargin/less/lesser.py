@@ -120,7 +120,7 @@ def lessened(machine):
             kept.append(door)
     told = Machine(part.clocks, tuple([part.limits[room] for room in firsts]), tuple(kept))
     left = [index for index in range(len(machine.doors)) if machine.doors[index][0] in rooms]
-    found = (placed(machine.rooms, rooms, lots), placed(machine.clocks, clocks, range(len(clocks))),
+    found = (placed(machine.rooms, rooms, lots), placed(machine.clocks, clocks, list(range(len(clocks)))),
              placed(len(machine.doors), left, [kept.index(door) for door in doors]))
     return told, found
 
