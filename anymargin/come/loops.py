@@ -134,19 +134,19 @@ def round_stands(machine):
     ways = []
     at = 0
     while at < len(stands):
-        ways.append([])
-        for behind, last in stands_from(rows, stands[at]):
+        found = stands_from(rows, stands[at])
+        for behind, last in found:
             if behind not in places:
                 places[behind] = len(places)
                 stands.append(behind)
-            ways[at].append((places[behind], last))
+        ways.append([(places[behind], last) for behind, last in found])
         at += 1
     return knots_among(stands, ways)
 
 
 def knots_among(stands, ways):
     """What `round_stands` tells, from the stands and the ways between them, told by their places."""
-    lots = linked_lots([[place for place, last in row] for row in ways])
+    lots = linked_lots([[goal for goal, step in row] for row in ways])
     homes = {place: at for at in range(len(lots)) for place in lots[at]}
     knots = []
     for lot in lots:
