@@ -3,8 +3,10 @@ import unittest
 from fractions import Fraction
 
 from anymargin.errors import InvalidNumber, Refused
+from anymargin.house.desk import Desk
 from anymargin.machine.machines import Machine
 from anymargin.machine.nets import Net
+from anymargin.text.shell import Shell
 from anymargin.zone.zones import Zone
 
 # The longest integers that may be passed, and the shortest ones that may not.
@@ -14,7 +16,7 @@ LONG = 10 ** 60
 ZONE = Zone(1, 1, ((0, 0), (2, 0)))
 MACHINE = Machine(1, ((2,),), ())
 NET = Net(MACHINE, MACHINE, ())
-OBJECTS = (ZONE, MACHINE, NET, InvalidNumber(1), Refused(("zero",)))
+OBJECTS = (ZONE, MACHINE, NET, InvalidNumber(1), Refused(("zero",)), Desk(MACHINE), Shell())
 
 # The machines that the examples of the document share.
 HOLDS = Machine(2, ((4, 4), (4, 4)), ((0, ((1, 1), (0, 4)), (0, 1), 0), (0, ((0, 0), (2, 2)), (), 1)))
