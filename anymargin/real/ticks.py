@@ -4,7 +4,7 @@ from anymargin.base.exact import ZERO, difference_of, order_of, reduced, sum_of
 from anymargin.base.fractions import is_from_zero
 from anymargin.come.within import MOST_M
 from anymargin.errors import InvalidOperation, InvalidRun, Refused
-from anymargin.machine.machines import check_machine
+from anymargin.machine.machines import asked_at, check_machine
 from anymargin.machine.runs import MOST_STEPS, WORDS, check_margin, do_follow, step_misses, with_zeros
 
 
@@ -117,6 +117,7 @@ def first_fault(machine, own, k, run):
     ticks = notice_ticks(own, run)
     rows = reading_rows(machine, times, run)
     counts = counter_rows(machine, own, run)
+    asked = [asked_at(machine, door) for door in range(len(machine.doors))]
     for index in range(len(run)):
         tick, lag, door = run[index]
         if index > 0 and order_of(times[index], times[index - 1]) < 0:
@@ -124,11 +125,15 @@ def first_fault(machine, own, k, run):
         if index > 0 and door in own and tick < ticks[index - 1]:
             return (index, "unseen", None)
         # A counter is a reading in ticks: divided by k it is compared with the bounds themselves.
-        ahead = tuple([reduced(count, k) for count in counts[index]]) if door in own else rows[index]
-        missed = first_missed(machine, door, ahead)
-        if missed is not None:
-            return (index,) + missed
+        ahead = tuple([(count, k) for count in counts[index]]) if door in own else rows[index]
+        if not do_keep_asked(asked[door], ahead):
+            return (index,) + first_missed(machine, door, ahead)
     return None
+
+
+def do_keep_asked(asked, ahead):
+    """Whether readings, pairs (top, bottom), lie from low to high for each pair (low, high) of what a door asks."""
+    return all([low * bottom <= top <= high * bottom for (low, high), (top, bottom) in zip(asked, ahead)])
 
 
 def first_missed(machine, door, ahead):
