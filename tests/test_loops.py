@@ -88,7 +88,7 @@ class Points(Case):
     def test_whole_readings_that_are_come_to_with_every_margin(self):
         more = 0
         for machine in CASES:
-            points, touched = points_with_every(machine, round_stands(machine))
+            points, touched = points_with_every(machine)
             self.same(points, bits_of(machine.rooms, every_nodes(machine)))
             more += points != first_points(machine, plan_of(machine))
             lot = set(every_nodes(machine))
@@ -109,4 +109,4 @@ class Points(Case):
         far = Machine(1, ((1,), (1,)), ((1, ((0, 1),), (0,), 1),))
         for machine, many, touched in ((SPIN, 1, 1), (HOLDS, 1, 1), (BASE, 5, 5), (far, 1, 0)):
             found = round_stands(machine)
-            self.same((len(found), len(points_with_every(machine, found)[1])), (many, touched))
+            self.same((len(found), len(points_with_every(machine)[1])), (many, touched))

@@ -174,15 +174,18 @@ def borders_of(cls):
 def border(cls, ups):
     """The border in which the rests go up just at the told steps."""
     wholes, order = cls
-    levels = [[] for _ in range(sum(ups) + 1)]
-    level = 0
-    for group, step in zip(order, [0] + ups):
-        level += step
-        levels[level] = levels[level] + list(group)
+    levels = [list(order[0])]
+    for group, step in zip(order[1:], ups):
+        if step:
+            levels.append(list(group))
+        else:
+            levels[-1].extend(group)
+    if ups[-1]:
+        return (wholes, tuple([tuple(sorted(level)) for level in levels]))
     # The rests that are 1 belong to the next whole part, with the rest 0.
-    first = tuple(sorted(levels[0] + levels[-1]))
-    middle = [tuple(sorted(clocks)) for clocks in levels[1:-1]]
-    return (raised(wholes, levels[-1]), (first,) + tuple(middle))
+    full = levels.pop()
+    levels[0].extend(full)
+    return (raised(wholes, full), tuple([tuple(sorted(level)) for level in levels]))
 
 
 def is_by(cls, readings):

@@ -1,7 +1,7 @@
 """What is come to with every margin: exact moves, and the closures of rounds that are touched."""
 from anymargin.base.checks import is_from_to, is_row
 from anymargin.clock.classes import borders_of, has_class_form
-from anymargin.come.loops import knot_corners, knot_nodes, round_stands
+from anymargin.come.loops import knot_corners, knot_faces, knot_nodes, round_stands
 from anymargin.come.plain import WAIT, check_node, first_node, found_from, has_node_form, is_move, move_rows, moves_by
 from anymargin.come.plain import next_layer, node_behind, node_in, row_to
 from anymargin.come.points import come_on, first_points, plan_of
@@ -86,7 +86,7 @@ def does_go_round(machine, node, value):
     return now == node and lacking == ()
 
 
-def points_with_every(machine, knots):
+def points_with_every(machine):
     """The pair of what whole readings are come to with every margin, for each room, and of the knots that are touched.
 
     What is come to with every margin is made of whole closures. So a class on a round is touched just if one of its
@@ -94,7 +94,7 @@ def points_with_every(machine, knots):
     """
     plan = plan_of(machine)
     points = first_points(machine, plan)
-    left = [(knot, knot_corners(machine.rooms, knot)) for knot in knots]
+    left = [(knot, knot_corners(machine.rooms, knot)) for knot in round_stands(machine)]
     touched = []
     more = True
     while more:
@@ -114,10 +114,12 @@ def are_touched(corners, points):
     return any([bits & held for bits, held in zip(corners, points)])
 
 
-def touching(knots):
-    """For each node that touches rounds the list of the classes, in its room, on rounds that it is a border of."""
+def touching(knots, closures):
+    """For each node that touches rounds the list of the classes, in its room, on rounds that it is a border of.
+
+    The borders of each class are put to the closures.
+    """
     rows = {}
-    closures = {}
     for room, cls in [node for nodes in sorted([knot_nodes(knot) for knot in knots]) for node in nodes]:
         if cls not in closures:
             closures[cls] = borders_of(cls)
@@ -126,13 +128,14 @@ def touching(knots):
     return rows
 
 
-def found_with_every(machine, wanted):
-    """For each node come to with every margin the pair (node ahead, link), None for the first one.
+def found_by_rounds(machine, knots, wanted):
+    """For each node come to with every margin, up to one of the wanted room, the pair (node ahead, link).
 
-    A link of a round lacks its moves. Links of rounds are taken only if no moves lead on: so there are few. If a room
-    is wanted, it can be enough to find a node of this one.
+    It is None for the first one. A link of a round lacks its moves. Links of rounds, of the knots that are touched, are
+    taken only if no moves lead on: so there are few.
     """
-    rounds = touching(points_with_every(machine, round_stands(machine))[1])
+    closures = {}
+    rounds = touching(knots, closures)
     begin = first_node(machine)
     found = {begin: None}
     taken = {}
@@ -145,7 +148,9 @@ def found_with_every(machine, wanted):
         layer = []
         for node in reached:
             for cls in rounds.get(node, []):
-                layer.extend(spread(found, taken, node, cls))
+                if (node[0], cls) not in taken:
+                    taken[(node[0], cls)] = True
+                    layer.extend(spread(found, node, cls, closures[cls]))
     return found
 
 
@@ -159,13 +164,10 @@ def come_along(rows, found, begins):
     return reached
 
 
-def spread(found, taken, node, cls):
+def spread(found, node, cls, closure):
     """The list of the nodes that are found in the closure of a class on a round, by way of a node that touches it."""
     room = node[0]
-    if (room, cls) in taken:
-        return []
-    taken[(room, cls)] = True
-    goals = [border for border in borders_of(cls) if (room, border) not in found]
+    goals = [border for border in closure if (room, border) not in found]
     for goal in goals:
         found[(room, goal)] = (node, ("round", cls, goal))
     return [(room, goal) for goal in goals]
@@ -175,21 +177,25 @@ def every_nodes(machine):
     """The ascending tuple of the nodes come to with every margin."""
     check_machine(machine)
     check_tight(machine)
-    return tuple(sorted(list(found_with_every(machine, None))))
+    begin = first_node(machine)
+    found = {begin: None}
+    rows = move_rows(machine)
+    come_along(rows, found, [begin])
+    more = []
+    for room, cls in [node for knot in points_with_every(machine)[1] for node in knot_faces(knot)]:
+        for border in borders_of(cls):
+            if (room, border) not in found:
+                found[(room, border)] = None
+                more.append((room, border))
+    come_along(rows, found, more)
+    return tuple(sorted(list(found)))
 
 
 def comes_with_every(machine, room):
     """Whether the room is come to with every margin."""
     check_ask(machine, room)
     check_tight(machine)
-    return does_come(machine, room)
-
-
-def does_come(machine, room):
-    """What `comes_with_every` tells, without checks."""
-    if is_come_to(machine, room):
-        return True
-    return points_with_every(machine, round_stands(machine))[0][room] > 0
+    return is_come_to(machine, room) or points_with_every(machine)[0][room] > 0
 
 
 def is_come_to(machine, room):
@@ -255,10 +261,11 @@ def found_chain(machine, room):
     """What `chain_to` tells, without checks."""
     if is_come_to(machine, room):
         found = found_from(machine, room)
-    elif does_come(machine, room):
-        found = found_with_every(machine, room)
     else:
-        return None
+        points, touched = points_with_every(machine)
+        if not points[room]:
+            return None
+        found = found_by_rounds(machine, touched, room)
     node = node_in(found, room)
     chain = []
     while found[node] is not None:

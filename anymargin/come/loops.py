@@ -160,14 +160,27 @@ def knots_among(stands, ways):
     return knots
 
 
-def knot_corners(rooms, knot):
-    """For each of so many rooms the bits of all corners of the classes of a knot."""
-    found = [0] * rooms
+def faces_of(knot):
+    """The list of (room, size, spots) of classes of a knot of which all of its classes are borders."""
+    found = []
     for (room, size, spots), last in knot:
         # A class at a whole number is a border of the next one, and of the one ahead.
         first = 1 - spots[0] % 2
         for step in range(first if first <= last else 0, last + 1, 2):
-            found[room] |= corner_bits(size, [spot + step for spot in spots])
+            found.append((room, size, [spot + step for spot in spots]))
+    return found
+
+
+def knot_faces(knot):
+    """The list of nodes of a knot of whose classes all of its classes are borders, room by room."""
+    return [(room, class_at(size, spots)) for room, size, spots in faces_of(knot)]
+
+
+def knot_corners(rooms, knot):
+    """For each of so many rooms the bits of all corners of the classes of a knot."""
+    found = [0] * rooms
+    for room, size, spots in faces_of(knot):
+        found[room] |= corner_bits(size, spots)
     return found
 
 

@@ -121,9 +121,26 @@ def asked_at(machine, index):
     return tuple(asked)
 
 
+def is_tight(machine):
+    """Whether there is no loose round."""
+    for clock in range(machine.clocks):
+        pairs = [(door[0], door[3]) for door in machine.doors if clock not in door[2]]
+        many = 0
+        # Doors to rooms from which no such door leads on are on no round: without a round all are left out in the end.
+        while len(pairs) != many:
+            many = len(pairs)
+            begins = [room for room, goal in pairs]
+            pairs = [pair for pair in pairs if pair[1] in begins]
+        if pairs:
+            return False
+    return True
+
+
 def loose_round(machine):
     """A loose round (doors, clock), None if there is none."""
     check_machine(machine)
+    if is_tight(machine):
+        return None
     for clock in range(machine.clocks):
         rooms = row_of_rooms(machine, clock)
         if rooms is not None:
