@@ -8,7 +8,8 @@ from anymargin.machine import machines as module
 from anymargin.machine.machines import (
     Machine, falls, is_door, is_falls, is_guards, is_loose, loose_round, machine_fault, with_door, with_limits,
     without_doors)
-from tests.support import EVERYTHING, LONG, MACHINE, MOST, NO_INTEGERS, NO_TUPLES, Case
+from tests.support import (
+    EVERYTHING, LONG, MACHINE, MOST, NO_INTEGERS, NO_TUPLES, Case, is_tight, random_machine)
 
 EXAMPLES = """
 >>> M = Machine(1, ((2,), (1,)), ((0, ((1, 2),), (0,), 1), (1, ((0, 1),), (), 0)))
@@ -195,6 +196,16 @@ class Rounds(Case):
                 self.assertIn(found[1], loose)
             else:
                 self.same(is_falls(machine, rows), True)
+
+    def test_tightness_is_found_in_two_ways(self):
+        chosen = random.Random(73)
+        counts = {True: 0, False: 0}
+        for _ in range(400):
+            machine = random_machine(chosen, chosen.choice((1, 2, 3)), chosen.choice((1, 3, 6)), chosen.randrange(13))
+            found = module.is_tight(machine)
+            counts[found] += 1
+            self.same((found, loose_round(machine) is None), (is_tight(machine), found))
+        self.assertGreater(min(counts.values()), 50)
 
     def test_a_loose_round_has_no_falls(self):
         rows = list(product(range(3), repeat=2))

@@ -108,11 +108,6 @@ def does_keep_all(wholes, first, asked):
     return True
 
 
-def moves_from(machine, node):
-    """The list of the pairs (move, node behind it) of the moves that are let from a node."""
-    return moves_by(move_rows(machine), node)
-
-
 def class_graph(machine):
     """The pair (nodes, graph): all nodes, and for each one the indices of those behind its moves."""
     check_machine(machine)

@@ -4,7 +4,7 @@ from anymargin.base.exact import ZERO, difference_of, order_of, sum_of, total_of
 from anymargin.base.fractions import is_from_zero
 from anymargin.errors import InvalidOperation, InvalidRun, Refused, TooMany
 from anymargin.machine.machines import MOST_CLOCKS, MOST_DOORS, MOST_NUMBER, MOST_ROOMS, Machine, check_machine
-from anymargin.machine.runs import MOST_STEPS, all_above, greatest_of, has_run_form, last_room, miss_rows, moments_of
+from anymargin.machine.runs import MOST_STEPS, all_above, greatest_of, has_run_form, last_room, moments_of, needed_by
 from anymargin.machine.runs import visits, waited
 
 
@@ -162,7 +162,7 @@ def stay_needed(machine, stay):
     standing = visits(machine, run)
     readings = standing[-1][1] if standing else (ZERO,) * machine.clocks
     at_end = all_above(waited(readings, rest), machine.limits[last_room(machine, run)])
-    return greatest_of([miss for rows in miss_rows(machine, run) for row in rows for miss in row] + list(at_end))
+    return greatest_of((needed_by(machine, run),) + at_end)
 
 
 def split(net, stay):
