@@ -164,28 +164,22 @@ def borders(cls):
 
 def borders_of(cls):
     """What `borders` tells, without checks."""
-    many = len(cls[1])
-    # A border tells for each of the steps from 0 over the rests up to 1 whether it is one
-    # up, or none: not all can be none, as 0 is not 1.
-    patterns = [[pattern >> step & 1 for step in range(many)] for pattern in range(1, 1 << many)]
-    return tuple(sorted([border(cls, ups) for ups in patterns]))
-
-
-def border(cls, ups):
-    """The border in which the rests go up just at the told steps."""
     wholes, order = cls
-    levels = [list(order[0])]
-    for group, step in zip(order[1:], ups):
-        if step:
-            levels.append(list(group))
-        else:
-            levels[-1].extend(group)
-    if ups[-1]:
-        return (wholes, tuple([tuple(sorted(level)) for level in levels]))
-    # The rests that are 1 belong to the next whole part, with the rest 0.
-    full = levels.pop()
-    levels[0].extend(full)
-    return (raised(wholes, full), tuple([tuple(sorted(level)) for level in levels]))
+    # In a border each group has the rest of the one ahead, or a greater one.
+    rows = [order[:1]]
+    for group in order[1:]:
+        rows = [row[:-1] + (merged_clocks(row[-1], group),) for row in rows] + [row + (group,) for row in rows]
+    found = [(wholes, row) for row in rows]
+    # The greatest rest can be 1: these clocks belong to the next whole part, with the rest 0.
+    for row in rows:
+        if len(row) > 1:
+            found.append((raised(wholes, row[-1]), (merged_clocks(row[0], row[-1]),) + row[1:-1]))
+    return tuple(sorted(found))
+
+
+def merged_clocks(one, other):
+    """The ascending tuple of the clocks of two groups."""
+    return tuple(sorted(one + other)) if one else other
 
 
 def is_by(cls, readings):
