@@ -3,7 +3,7 @@ from anymargin.base.checks import check_number, is_number
 from anymargin.base.exact import order_of
 from anymargin.come.every import comes_with_every, margin_answer
 from anymargin.errors import InvalidNumber, InvalidOperation, NothingToUndo, TooMany
-from anymargin.machine.machines import MOST_DOORS, Machine, are_limits, check_machine, has_door_form, loose_round
+from anymargin.machine.machines import MOST_DOORS, Machine, are_limits, check_machine, has_door_form, is_tight
 from anymargin.machine.machines import with_limits, without_doors
 from anymargin.machine.runs import check_its_run, needed_by
 from anymargin.mend.mends import least_mends
@@ -146,7 +146,7 @@ class Desk:
 
 def does_tell(machine, room, wanted):
     """Whether the machine is tight, and the room comes with every margin just as it is wanted."""
-    return loose_round(machine) is None and comes_with_every(machine, room) == wanted
+    return is_tight(machine) and comes_with_every(machine, room) == wanted
 
 
 def places_behind(doors, calls):

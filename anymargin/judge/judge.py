@@ -6,7 +6,7 @@ from anymargin.come.every import does_end_in
 from anymargin.come.plain import graph_of, is_closed_lot, is_exact_run
 from anymargin.come.within import MOST_M, is_table
 from anymargin.errors import InvalidClaim
-from anymargin.machine.machines import Machine, is_falls, is_loose, loose_round, machine_fault
+from anymargin.machine.machines import Machine, is_falls, is_loose, is_tight, machine_fault
 from anymargin.machine.runs import does_go, has_run_form, last_room
 from anymargin.real.logs import does_bar_log, does_explain, has_log_form
 from anymargin.zone.zones import Zone, are_bounds
@@ -36,7 +36,7 @@ def is_claim(value):
     machine = machine_told(value[1])
     if not all([is_field(machine, field, member) for field, member in zip(fields, value[2:])]):
         return False
-    return value[0] not in TIGHT_KINDS or loose_round(machine) is None
+    return value[0] not in TIGHT_KINDS or is_tight(machine)
 
 
 def is_told_machine(value):
